@@ -1,0 +1,1 @@
+"""Evenkin: webs held against one another by trees, tables of shares and kinds of pairs."""
