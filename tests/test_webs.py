@@ -82,31 +82,31 @@ class RightWebs(LookAtWeb):
 
 class OneWrong(LookAtWeb):
     def test_hue_below_nought(self):
-        for size in (1, 3, 8):
+        for size in (1, 3, 8, 9):
             for place in range(size):
                 for hue in (-1, -SIXTY):
                     web = changed(web_of(size), lambda hues, rows: hues.__setitem__(place, hue))
                     self.check_wrong(web, place)
 
     def test_no_row(self):
-        for size in (1, 3, 8):
+        for size in (1, 3, 8, 9):
             for place in range(size):
                 web = web_of(size)
                 self.check_wrong((web[0], web[1][:place]), place)
 
     def test_row_too_long(self):
-        for size in (1, 3, 8):
+        for size in (1, 3, 8, 9):
             for place in range(size):
                 self.check_wrong(changed(web_of(size), lambda hues, rows: rows[place].append(0)), place)
 
     def test_row_too_short(self):
-        for size in (1, 3, 8):
+        for size in (1, 3, 8, 9):
             for place in range(size):
                 self.check_wrong(changed(web_of(size), lambda hues, rows: rows[place].pop()), place)
                 self.check_wrong(changed(web_of(size), lambda hues, rows: rows[place].clear()), place)
 
     def test_weight_that_is_another_one_turned_round(self):
-        for size in (2, 3, 8):
+        for size in (2, 3, 8, 9):
             for u in range(size):
                 for v in range(size):
                     if u != v:
