@@ -3,18 +3,13 @@ from fractions import Fraction
 from math import gcd
 
 from evenkin.fractions import fraction_of, product_of, sum_of_two
-from helpers import check_own, is_whole
+from helpers import SIXTY, as_told, check_own, is_whole
 
-SIXTY = 10 ** 60 - 1
 SIXTY_EVEN = 10 ** 60 - 2
 SIXTY_THREES = int("3" * 60)
 LARGE = (SIXTY, -SIXTY, SIXTY_EVEN, -SIXTY_EVEN, SIXTY_THREES, 10 ** 59, -(10 ** 59), 2 ** 199)
 SMALL = [(top, bottom) for bottom in range(1, 8) for top in range(-9, 10) if gcd(top, bottom) == 1]
 BIG = [(SIXTY, 1), (-SIXTY, SIXTY_EVEN), (SIXTY_EVEN, SIXTY), (1, SIXTY), (-1, 10 ** 59), (7, 2 ** 199), (0, 1)]
-
-
-def as_told(value):
-    return (value.numerator, value.denominator)
 
 
 class Fractions(unittest.TestCase):

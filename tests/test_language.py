@@ -23,6 +23,8 @@ TWO_UNDERSCORES = ("__init__", "__eq__", "__repr__", "__str__", "__len__")
 WORDS = """type typing typing_extensions enum Enum IntEnum StrEnum Flag IntFlag Generic Protocol ABC ABCMeta namedtuple
     NamedTuple TypedDict TYPE_CHECKING abstractmethod""".split()
 PARTS = ("dataclass", "overload", "contextmanager")
+LAZY = ("zip", "enumerate", "reversed", "range", "items", "keys", "values")
+WALKERS = ("list", "tuple", "dict", "sorted", "sum", "any", "all", "enumerate", "zip", "min", "max", "join")
 
 
 def check_text(text):
@@ -66,6 +68,39 @@ def check_names(tree, methods):
         if isinstance(node, ast.Call) and isinstance(node.func, ast.Attribute):
             if node.func.attr not in METHODS and node.func.attr not in methods:
                 yield node.lineno, f"L25 the method {node.func.attr}"
+
+
+def local_names(node):
+    inner = [part for part in ast.walk(node) if part is not node]
+    stored = [part.id for part in inner if isinstance(part, ast.Name) and isinstance(part.ctx, ast.Store)]
+    return stored + [part.arg for part in inner if isinstance(part, ast.arg)]
+
+
+def check_locals(tree):
+    imports = [alias.name for node in tree.body if isinstance(node, ast.ImportFrom) for alias in node.names]
+    tops = imports + [node.name for node in tree.body if isinstance(node, ast.ClassDef)]
+    for node in tree.body:
+        if isinstance(node, (ast.FunctionDef, ast.ClassDef)):
+            for name in set(local_names(node)) & set(tops):
+                yield node.lineno, f"L15 a local {name} like an import or a class"
+
+
+def called(node):
+    if not isinstance(node, ast.Call):
+        return None
+    return node.func.id if isinstance(node.func, ast.Name) else getattr(node.func, "attr", None)
+
+
+def check_walks(tree):
+    walked = []
+    for node in ast.walk(tree):
+        if isinstance(node, (ast.For, ast.comprehension)):
+            walked.append(node.iter)
+        if called(node) in WALKERS:
+            walked += node.args
+    for node in ast.walk(tree):
+        if called(node) in LAZY and node not in walked:
+            yield node.lineno, "L23 kept, not walked"
 
 
 def check_top(tree):
@@ -132,6 +167,7 @@ def methods_of(trees):
 def check_code(text, methods=()):
     tree = ast.parse(text)
     found = list(check_text(text)) + list(check_names(tree, methods)) + list(check_top(tree))
+    found += list(check_locals(tree)) + list(check_walks(tree))
     for node in ast.walk(tree):
         if isinstance(node, ast.FunctionDef):
             found += check_function(node)
@@ -169,6 +205,16 @@ class Package(unittest.TestCase):
             for name in free:
                 drawn.pop(name)
 
+    def test_each_import_is_drawn_from_the_file_that_defines_it(self):
+        trees = {path.stem: ast.parse(path.read_text()) for path in PACKAGE.glob("*.py")}
+        for tree in trees.values():
+            for node in tree.body:
+                if isinstance(node, ast.ImportFrom):
+                    there = trees[node.module.removeprefix("evenkin.")]
+                    defined = [part.name for part in there.body if isinstance(part, (ast.FunctionDef, ast.ClassDef))]
+                    for alias in node.names:
+                        self.assertIn(alias.name, defined)
+
 
 class TheCheckItself(unittest.TestCase):
     def test_plain_code_is_let_by(self):
@@ -182,6 +228,13 @@ class TheCheckItself(unittest.TestCase):
                      "return x.format()", "while x:\n        x = 0\n    else:\n        pass"):
             with self.subTest(line=line):
                 self.assertNotEqual(check_code(f"def f(x):\n    {line}\n"), [])
+
+    def test_locals_like_imports_and_things_kept_unwalked_are_found(self):
+        self.assertNotEqual(check_code("from evenkin.webs import web_of\n\n\ndef f(web_of):\n    return web_of\n"), [])
+        for line in ("return zip(x, x)", "y = reversed(x)", "x.extend(range(3))", "return x.values()"):
+            self.assertNotEqual(check_code(f"def f(x):\n    {line}\n"), [])
+        for line in ("return list(zip(x, x))", "return tuple(x.values())", "return [y for y in range(x)]"):
+            self.assertEqual(check_code(f"def f(x):\n    {line}\n"), [])
 
     def test_long_functions_and_lines_are_found(self):
         self.assertNotEqual(check_code("def f(x):\n" + "    x = 1\n" * 40), [])

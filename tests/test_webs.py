@@ -4,19 +4,11 @@ from itertools import permutations, product
 
 from evenkin.errors import KinError, NoOrder, NoWeb
 from evenkin.webs import look_at_web, side_by_side, web_renamed
-from helpers import check_own, is_whole, lists_in
+from helpers import NO_PLACES, SIXTY, check_own, is_whole, lists_in, web_of
 
-SIXTY = 10 ** 60 - 1
-NO_PLACES = ([], [])
 ONE_PLACE = ([7], [[-3]])
 TWO_PLACES = ([0, 1], [[4, 5], [5, 6]])
 FOUR_PLACES = ([3, 0, 3, 8], [[1, 2, -3, 0], [2, 5, 6, 7], [-3, 6, 0, -9], [0, 7, -9, 10]])
-
-
-def web_of(size):
-    """A web in which any two places and any two pairs differ."""
-    rows = [[10 * min(u, v) + max(u, v) - 20 for v in range(size)] for u in range(size)]
-    return ([100 + u for u in range(size)], rows)
 
 
 def changed(web, change):

@@ -1,0 +1,278 @@
+import copy
+import unittest
+from fractions import Fraction
+from math import gcd
+from random import Random
+
+from evenkin.rows import row_of, total_of
+from evenkin.trees import term_of
+from evenkin.webs import side_by_side, web_renamed
+from helpers import NO_PLACES, SIXTY, all_webs, as_told, check_own, is_whole, some_webs, web_of
+
+ONE = ("one",)
+THREE = ([0, 1, 0], [[2, -3, 0], [-3, 0, 5], [0, 5, 7]])
+EIGHT = next(some_webs(8, (0, 1, 5), (-4, -1, 0, 0, 1, 2, 3), 1, 8))
+SIXTEEN = side_by_side(EIGHT, next(some_webs(8, (0, 1, 2), (-9, 0, 1, 6), 1, 9)))
+LARGE = ([0, SIXTY], [[SIXTY, -SIXTY], [-SIXTY, SIXTY - 1]])
+WEBS = (NO_PLACES, ([0], [[3]]), ([4], [[0]]), ([1], [[-2]]), THREE, LARGE, EIGHT, SIXTEEN, web_of(8))
+FRACTIONS = ((0, 1), (1, 1), (-1, 1), (1, 2), (-5, 6), (9, 4))
+LARGE_FRACTIONS = ((SIXTY, 1), (-SIXTY, SIXTY - 1), (1, SIXTY), (-1, 10 ** 59), (7, 2 ** 199), (SIXTY - 1, SIXTY))
+LEAVES = (ONE, ("hue", 0), ("hue", 1), ("hue", SIXTY))
+
+
+def row_there(web, term):
+    """Point 6 word by word, with Python's own fractions."""
+    hues, rows = web
+    places = range(len(hues))
+    kind = term[0]
+    if kind == "one":
+        return [Fraction(1) for u in places]
+    if kind == "hue":
+        return [Fraction(1 if hues[u] == term[1] else 0) for u in places]
+    if kind == "near":
+        inner = row_there(web, term[1])
+        return [sum((rows[u][v] * inner[v] for v in places), Fraction(0)) for u in places]
+    if kind == "many":
+        return [Fraction(*term[1]) * value for value in row_there(web, term[2])]
+    first, second = row_there(web, term[1]), row_there(web, term[2])
+    if kind == "both":
+        return [first[u] * second[u] for u in places]
+    assert kind == "plus"
+    return [first[u] + second[u] for u in places]
+
+
+def depth_of(term):
+    return 1 + max([depth_of(part) for part in term if isinstance(part, tuple) and isinstance(part[0], str)], default=0)
+
+
+def one_deeper(terms, others, fractions):
+    """Every term of one of the kinds with these terms in it."""
+    found = [("near", term) for term in terms]
+    found += [(kind, term, other) for kind in ("both", "plus") for term in terms for other in others]
+    return found + [("many", f, term) for f in fractions for term in terms]
+
+
+def any_term(chance, depth, fractions):
+    """A term of just this depth."""
+    if depth == 1:
+        return chance.choice(LEAVES)
+    kind = chance.choice(("near", "both", "plus", "many"))
+    inner = any_term(chance, depth - 1, fractions)
+    if kind == "near":
+        return (kind, inner)
+    if kind == "many":
+        return (kind, chance.choice(fractions), inner)
+    other = any_term(chance, chance.randint(1, min(3, depth - 1)), fractions)
+    return (kind, inner, other) if chance.random() < 0.5 else (kind, other, inner)
+
+
+class Rows(unittest.TestCase):
+    def check(self, web, term):
+        right = row_there(web, term)
+        self.check_told(row_of(web, term), [as_told(value) for value in right])
+        self.check_told([total_of(web, term)], [as_told(sum(right, Fraction(0)))])
+
+    def check_told(self, told, right):
+        self.assertIs(type(told), list)
+        self.assertEqual(told, right)
+        for f in told:
+            self.assertIs(type(f), tuple)
+            self.assertTrue(is_whole(f[0]) and is_whole(f[1]))
+            self.assertGreater(f[1], 0)
+            self.assertEqual(gcd(*f), 1)
+
+
+class EachKind(Rows):
+    def test_one_is_1_everywhere(self):
+        self.assertEqual(row_of(THREE, ONE), [(1, 1), (1, 1), (1, 1)])
+        self.assertEqual(total_of(THREE, ONE), (3, 1))
+
+    def test_hue_is_1_at_places_of_the_hue(self):
+        self.assertEqual(row_of(THREE, ("hue", 0)), [(1, 1), (0, 1), (1, 1)])
+        self.assertEqual(row_of(THREE, ("hue", 1)), [(0, 1), (1, 1), (0, 1)])
+        self.assertEqual(total_of(THREE, ("hue", 0)), (2, 1))
+        self.assertEqual(row_of(LARGE, ("hue", SIXTY)), [(0, 1), (1, 1)])
+
+    def test_hue_that_no_place_has(self):
+        for hue in (2, 7, SIXTY):
+            self.assertEqual(row_of(THREE, ("hue", hue)), [(0, 1), (0, 1), (0, 1)])
+            self.assertEqual(total_of(THREE, ("hue", hue)), (0, 1))
+        self.assertEqual(row_of(LARGE, ("hue", SIXTY - 1)), [(0, 1), (0, 1)])
+
+    def test_near_is_the_sum_of_weights_times_the_term(self):
+        self.assertEqual(row_of(THREE, ("near", ONE)), [(-1, 1), (2, 1), (12, 1)])
+        self.assertEqual(row_of(THREE, ("near", ("hue", 0))), [(2, 1), (2, 1), (7, 1)])
+        self.assertEqual(row_of(THREE, ("near", ("near", ONE))), [(-8, 1), (63, 1), (94, 1)])
+        self.assertEqual(total_of(THREE, ("near", ONE)), (13, 1))
+
+    def test_near_counts_the_weight_of_a_place_with_itself(self):
+        self.assertEqual(row_of(([0], [[-3]]), ("near", ONE)), [(-3, 1)])
+        self.assertEqual(row_of(([0, 1], [[5, 0], [0, 0]]), ("near", ONE)), [(5, 1), (0, 1)])
+
+    def test_both_is_the_product(self):
+        self.assertEqual(row_of(THREE, ("both", ("near", ONE), ("near", ONE))), [(1, 1), (4, 1), (144, 1)])
+        self.assertEqual(row_of(THREE, ("both", ("near", ONE), ("hue", 0))), [(-1, 1), (0, 1), (12, 1)])
+        self.assertEqual(total_of(THREE, ("both", ("hue", 0), ("hue", 1))), (0, 1))
+
+    def test_plus_is_the_sum(self):
+        self.assertEqual(row_of(THREE, ("plus", ("near", ONE), ("hue", 0))), [(0, 1), (2, 1), (13, 1)])
+        self.assertEqual(row_of(THREE, ("plus", ("hue", 0), ("hue", 1))), row_of(THREE, ONE))
+
+    def test_many_is_the_fraction_times_the_term(self):
+        self.assertEqual(row_of(THREE, ("many", (-5, 6), ("near", ONE))), [(5, 6), (-5, 3), (-10, 1)])
+        self.assertEqual(total_of(THREE, ("many", (-5, 6), ("near", ONE))), (-65, 6))
+        self.assertEqual(row_of(THREE, ("many", (0, 1), ONE)), [(0, 1), (0, 1), (0, 1)])
+
+    def test_each_fraction_is_in_lowest_terms_by_itself(self):
+        halves = ("many", (1, 2), ("hue", 0))
+        thirds = ("many", (1, 3), ("hue", 1))
+        self.assertEqual(row_of(THREE, ("plus", halves, thirds)), [(1, 2), (1, 3), (1, 2)])
+        self.assertEqual(total_of(THREE, ("plus", halves, thirds)), (4, 3))
+        self.assertEqual(row_of(THREE, ("plus", halves, halves)), [(1, 1), (0, 1), (1, 1)])
+        self.assertEqual(total_of(THREE, halves), (1, 1))
+        self.assertEqual(row_of(THREE, ("both", ("many", (2, 3), ONE), ("many", (3, 2), ONE))), [(1, 1)] * 3)
+        self.assertEqual(row_of(THREE, ("near", ("many", (1, 6), ONE))), [(-1, 6), (1, 3), (2, 1)])
+
+
+class AgainstPointSix(Rows):
+    def test_each_kind_within_each_other(self):
+        shallow = list(LEAVES) + one_deeper(LEAVES, LEAVES, FRACTIONS)
+        for web in (([4], [[-2]]), THREE):
+            for term in shallow + one_deeper(shallow, LEAVES + (("near", ONE), ("many", (9, 4), ONE)), FRACTIONS):
+                with self.subTest(web=web, term=term):
+                    self.check(web, term)
+
+    def test_either_side_of_both_and_plus(self):
+        first, second = ("many", (1, 6), ("near", ("hue", 0))), ("plus", ("many", (-9, 4), ("near", ONE)), ("hue", 1))
+        for web in WEBS:
+            for kind in ("both", "plus"):
+                self.check(web, (kind, first, second))
+                self.assertEqual(row_of(web, (kind, first, second)), row_of(web, (kind, second, first)))
+
+    def test_webs_of_all_sizes(self):
+        terms = list(LEAVES) + one_deeper(LEAVES, LEAVES, FRACTIONS)
+        for web in WEBS:
+            for term in terms + one_deeper(terms[::3], terms[::5], FRACTIONS[3:]):
+                with self.subTest(web=web, term=term):
+                    self.check(web, term)
+
+    def test_all_webs_of_two_places(self):
+        term = ("plus", ("many", (1, 2), ("near", ("both", ("near", ONE), ("hue", 0)))), ("near", ("hue", 1)))
+        for web in all_webs(2, (0, 1), (-1, 0, 1, 2)):
+            self.check(web, term)
+
+    def test_the_web_without_places(self):
+        for term in list(LEAVES) + one_deeper(LEAVES, LEAVES, FRACTIONS + LARGE_FRACTIONS):
+            self.assertEqual(row_of(NO_PLACES, term), [])
+            self.assertEqual(total_of(NO_PLACES, term), (0, 1))
+
+    def test_two_webs_beside_one_another(self):
+        chance = Random(1)
+        for turn in range(30):
+            term = any_term(chance, 5, FRACTIONS)
+            for web, other in ((THREE, EIGHT), (EIGHT, web_of(8)), (NO_PLACES, THREE), (LARGE, NO_PLACES)):
+                both = side_by_side(web, other)
+                self.assertEqual(row_of(both, term), row_of(web, term) + row_of(other, term))
+                self.check(both, term)
+
+    def test_a_web_renamed(self):
+        chance = Random(2)
+        for turn in range(30):
+            term = any_term(chance, 6, FRACTIONS)
+            order = chance.sample(range(8), 8)
+            renamed = web_renamed(EIGHT, order)
+            self.assertEqual(row_of(renamed, term), [row_of(EIGHT, term)[u] for u in order])
+            self.assertEqual(total_of(renamed, term), total_of(EIGHT, term))
+
+    def test_weights_nought_everywhere(self):
+        nought = ([0, 1, 1], [[0] * 3 for u in range(3)])
+        for term in one_deeper(LEAVES, LEAVES, FRACTIONS):
+            self.check(nought, term)
+        self.assertEqual(row_of(nought, ("near", ONE)), [(0, 1)] * 3)
+
+
+class LargeNumbers(Rows):
+    def test_weights_of_sixty_figures(self):
+        self.assertEqual(row_of(LARGE, ("near", ONE)), [(0, 1), (-1, 1)])
+        self.assertEqual(row_of(LARGE, ("near", ("hue", 0))), [(SIXTY, 1), (-SIXTY, 1)])
+        for term in one_deeper([("near", leaf) for leaf in LEAVES], LEAVES, LARGE_FRACTIONS):
+            self.check(LARGE, term)
+
+    def test_fractions_of_sixty_figures(self):
+        for f in LARGE_FRACTIONS:
+            for g in LARGE_FRACTIONS:
+                mixed = ("plus", ("many", f, ("hue", 0)), ("many", g, ("hue", 1)))
+                for web in (THREE, LARGE, EIGHT):
+                    self.check(web, mixed)
+                    self.check(web, ("near", mixed))
+                    self.check(web, ("both", mixed, ("near", mixed)))
+
+    def test_fractions_that_take_each_other_up(self):
+        for f in LARGE_FRACTIONS:
+            over = (f[1], f[0]) if f[0] > 0 else (-f[1], -f[0])
+            self.assertEqual(row_of(THREE, ("many", f, ("many", over, ONE))), [(1, 1)] * 3)
+            opposite = ("many", (-f[0], f[1]), ONE)
+            self.assertEqual(row_of(THREE, ("plus", ("many", f, ONE), opposite)), [(0, 1)] * 3)
+
+
+class DeepTerms(Rows):
+    def test_twenty_deep_of_one_kind(self):
+        wraps = [lambda term: ("near", term), lambda term: ("many", (-5, 6), term),
+                 lambda term: ("many", (SIXTY, SIXTY - 1), term)]
+        for kind in ("both", "plus"):
+            wraps.append(lambda term, kind=kind: (kind, term, ("near", ONE)))
+            wraps.append(lambda term, kind=kind: (kind, ("near", ONE), term))
+        for wrap in wraps:
+            term = ("near", ONE)
+            while depth_of(term) < 20:
+                term = wrap(term)
+            for web in (NO_PLACES, THREE, EIGHT, SIXTEEN):
+                self.check(web, term)
+
+    def test_twenty_deep_of_all_kinds(self):
+        chance = Random(3)
+        for turn in range(60):
+            term = any_term(chance, 20, FRACTIONS)
+            self.assertEqual(depth_of(term), 20)
+            for web in (THREE, EIGHT, SIXTEEN):
+                self.check(web, term)
+
+    def test_twenty_deep_with_fractions_of_sixty_figures(self):
+        chance = Random(4)
+        for turn in range(10):
+            term = any_term(chance, 20, LARGE_FRACTIONS)
+            for web in (LARGE, EIGHT):
+                self.check(web, term)
+
+    def test_a_term_with_itself_on_both_sides(self):
+        term, right = ONE, 1
+        for turn in range(15):
+            term, right = ("plus", term, ("many", (1, 2), term)), right * Fraction(3, 2)
+        self.assertEqual(row_of(([0], [[1]]), term), [as_told(right)])
+
+    def test_terms_of_trees_with_many_boughs(self):
+        tree = (None, [])
+        for turn in range(19):
+            tree = (None, [tree] + [(0, []) for bough in range(299)])
+        term = term_of(tree)
+        self.assertEqual(row_of(([0, 0], [[0, 1], [1, 0]]), term), [(1, 1), (1, 1)])
+        self.assertEqual(total_of(([0, 1], [[0, 1], [1, 0]]), term), (0, 1))
+        self.assertEqual(total_of(([0], [[-1]]), term), ((-1) ** (19 * 300), 1))
+
+
+class WhatIsHandedInAndTold(Rows):
+    def test_own(self):
+        terms = list(LEAVES) + one_deeper(LEAVES, LEAVES, FRACTIONS[1:3]) + [("near", ("both", ONE, ("near", ONE)))]
+        for term in terms:
+            for web in (NO_PLACES, THREE, SIXTEEN):
+                check_own(self, row_of, [copy.deepcopy(web), term])
+                check_own(self, total_of, [copy.deepcopy(web), term])
+
+    def test_a_web_that_is_changed_is_reckoned_anew(self):
+        web = copy.deepcopy(THREE)
+        term = ("near", ("hue", 0))
+        before = row_of(web, term)
+        web[0][1] = 0
+        web[1][0][0] = 4
+        self.assertEqual(row_of(web, term), [(1, 1), (2, 1), (12, 1)])
+        self.assertEqual(before, [(2, 1), (2, 1), (7, 1)])
