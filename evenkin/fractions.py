@@ -23,3 +23,21 @@ def sum_of_two(f, g):
 
 def product_of(f, g):
     return fraction_of(f[0] * g[0], f[1] * g[1])
+
+
+def sum_of_all(fractions):
+    total = (0, 1)
+    for f in fractions:
+        total = sum_of_two(total, f)
+    return total
+
+
+def common_bottom(fractions):
+    bottom = 1
+    for f in fractions:
+        bottom = bottom // greatest_divisor(bottom, f[1]) * f[1]
+    return bottom
+
+
+def top_over(f, bottom):
+    return f[0] * (bottom // f[1])

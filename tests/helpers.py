@@ -1,7 +1,9 @@
-"""What several test files need: webs to ask about, looking at what is told, and sharing no list."""
+"""What several test files need: webs and tables to ask about, looking at what is told, and sharing no list."""
 
 import copy
+from fractions import Fraction
 from itertools import product
+from math import gcd
 from random import Random
 
 SIXTY = 10 ** 60 - 1
@@ -53,6 +55,236 @@ def ring(*sizes):
     return ([0] * size, rows)
 
 
+def web_of_ties(size, ties):
+    """A web of one hue with the weight 1 between the two places that each word of two figures names."""
+    rows = [[0] * size for u in range(size)]
+    for tie in ties.split():
+        u, v = int(tie[0]), int(tie[1])
+        rows[u][v] = rows[v][u] = 1
+    return ([0] * size, rows)
+
+
+# Two webs each whose lots are as many here as there for eight, seven and seven turns, and are not so behind them.
+LATE_PAIRS = tuple((web_of_ties(8, ties), web_of_ties(8, ties_there)) for ties, ties_there in (
+    ("02 03 05 07 13 14 15 16 26 33 37 45 46 47 57 66", "00 01 05 06 12 14 15 24 25 27 33 34 35 36 44 66 67"),
+    ("02 07 12 15 16 24 33 35 46 57", "01 05 06 13 17 24 25 33 45 67"),
+    ("02 04 05 11 15 17 23 26 33 35 45 46 57 67", "02 05 06 11 14 16 24 25 33 36 37 47 56 67"),
+))
+
+
+def web_of_own_weights(weights, hue=0):
+    """A web of one hue whose places have weights with themselves alone."""
+    size = len(weights)
+    return ([hue] * size, [[weights[u] if u == v else 0 for v in range(size)] for u in range(size)])
+
+
+# The sums of their first to seventh powers are alike, those of their eighth are not.
+LIKE_POWERS = (web_of_own_weights([0, 4, 9, 23, 27, 41, 46, 50]), web_of_own_weights([1, 2, 11, 20, 30, 39, 48, 49]))
+
+
+def scaled(web, factor):
+    return (list(web[0]), [[factor * weight for weight in row] for row in web[1]])
+
+
+def with_hue(web, place, hue):
+    changed = copy.deepcopy(web)
+    changed[0][place] = hue
+    return changed
+
+
+def with_weight(web, u, v, weight):
+    changed = copy.deepcopy(web)
+    changed[1][u][v] = changed[1][v][u] = weight
+    return changed
+
+
+def depth_of_tree(tree):
+    return 1 + max([depth_of_tree(bough) for bough in tree[1]], default=0)
+
+
+def is_tree(value):
+    """Whether a value has the form of a tree, by point 7."""
+    if type(value) is not tuple or len(value) != 2 or type(value[1]) is not list:
+        return False
+    right_wish = value[0] is None or is_whole(value[0]) and value[0] >= 0
+    return right_wish and all(is_tree(bough) for bough in value[1])
+
+
+def deep_tree(depth, wishes, beside=()):
+    """A tree of so many knots one behind the other, each but the last with boughs beside."""
+    tree = (wishes[0], [])
+    for turn in range(1, depth):
+        tree = (wishes[turn % len(wishes)], [tree] + copy.deepcopy(list(beside)))
+    return tree
+
+
+def sums_by_place(web, tree):
+    """For each place the sum over the maps that lead the first knot to it."""
+    hues, rows = web
+    places = range(len(hues))
+    sums = [1 if tree[0] is None or hue == tree[0] else 0 for hue in hues]
+    for bough in tree[1]:
+        there = sums_by_place(web, bough)
+        sums = [sums[u] * sum(rows[u][v] * there[v] for v in places) for u in places]
+    return sums
+
+
+def row_there(web, term):
+    """Point 6 word by word, with Python's own fractions, and the last words of point 16."""
+    hues, rows = web
+    places = range(len(hues))
+    kind = term[0]
+    if kind == "one":
+        return [Fraction(1) for u in places]
+    if kind == "hue":
+        return [Fraction(1 if hues[u] == term[1] else 0) for u in places]
+    if kind == "near":
+        inner = row_there(web, term[1])
+        return [sum((rows[u][v] * inner[v] for v in places), Fraction(0)) for u in places]
+    if kind == "many":
+        return [Fraction(*term[1]) * value for value in row_there(web, term[2])]
+    if kind == "rows":
+        table = table_there(web, term[1])
+        return [sum((table[u][v] for v in places), Fraction(0)) for u in places]
+    first, second = row_there(web, term[1]), row_there(web, term[2])
+    if kind == "both":
+        return [first[u] * second[u] for u in places]
+    assert kind == "plus"
+    return [first[u] + second[u] for u in places]
+
+
+def table_there(web, term):
+    """Point 16 word by word, with Python's own fractions."""
+    places = range(len(web[0]))
+
+    def by_pairs(value):
+        return [[Fraction(value(u, v)) for v in places] for u in places]
+    kind = term[0]
+    if kind == "same":
+        return by_pairs(lambda u, v: 1 if u == v else 0)
+    if kind == "tie":
+        return by_pairs(lambda u, v: web[1][u][v])
+    if kind == "all":
+        return by_pairs(lambda u, v: 1)
+    if kind == "on":
+        row = row_there(web, term[1])
+        return by_pairs(lambda u, v: row[u] if u == v else 0)
+    first = table_there(web, term[2] if kind == "many" else term[1])
+    if kind == "turned":
+        return by_pairs(lambda u, v: first[v][u])
+    if kind == "many":
+        return by_pairs(lambda u, v: Fraction(*term[1]) * first[u][v])
+    second = table_there(web, term[2])
+    if kind == "then":
+        return by_pairs(lambda u, v: sum(first[u][w] * second[w][v] for w in places))
+    if kind == "meet":
+        return by_pairs(lambda u, v: first[u][v] * second[u][v])
+    assert kind == "plus"
+    return by_pairs(lambda u, v: first[u][v] + second[u][v])
+
+
+def depth_of_term(term):
+    """Its depth by point 2; fractions are no terms."""
+    inner = [part for part in term if isinstance(part, tuple) and isinstance(part[0], str)]
+    return 1 + max([depth_of_term(part) for part in inner], default=0)
+
+
+ROW_LEAVES = (("one",), ("hue", 0), ("hue", 1), ("hue", SIXTY))
+TABLE_LEAVES = (("same",), ("tie",), ("all",))
+
+
+def any_row_term(chance, depth, fractions, tables=False):
+    """A row term of just this depth, if asked for with rows of table terms in it."""
+    if depth == 1:
+        return chance.choice(ROW_LEAVES)
+    kind = chance.choice(("near", "both", "plus", "many") + ("rows", "rows") * tables)
+    if kind == "rows":
+        return (kind, any_table_term(chance, depth - 1, fractions))
+    return any_term_of(chance, kind, depth, fractions, lambda deep: any_row_term(chance, deep, fractions, tables))
+
+
+def any_table_term(chance, depth, fractions):
+    """A table term of just this depth."""
+    if depth == 1:
+        return chance.choice(TABLE_LEAVES)
+    kind = chance.choice(("on", "turned", "then", "meet", "plus", "many"))
+    if kind == "on":
+        return (kind, any_row_term(chance, depth - 1, fractions, True))
+    return any_term_of(chance, kind, depth, fractions, lambda deep: any_table_term(chance, deep, fractions))
+
+
+def any_term_of(chance, kind, depth, fractions, any_inner):
+    inner = any_inner(depth - 1)
+    if kind in ("near", "turned"):
+        return (kind, inner)
+    if kind == "many":
+        return (kind, chance.choice(fractions), inner)
+    other = any_inner(chance.randint(1, min(3, depth - 1)))
+    return (kind, inner, other) if chance.random() < 0.5 else (kind, other, inner)
+
+
+def table_by_order(order):
+    """The table of shares from a web to the web renamed by the order."""
+    return [[(1, 1) if place == u else (0, 1) for place in order] for u in range(len(order))]
+
+
+def mixed_tables(parts):
+    """The sum of tables, each times its fraction."""
+    size = len(parts[0][1])
+    return [[as_told(sum((f * Fraction(*table[u][v]) for f, table in parts), Fraction(0))) for v in range(size)]
+            for u in range(size)]
+
+
+def turn_by(size, steps):
+    """The order that turns a ring of so many places by so many steps."""
+    return [(place + steps) % size for place in range(size)]
+
+
+def table_with(table, u, v, fraction):
+    changed = copy.deepcopy(table)
+    changed[u][v] = fraction
+    return changed
+
+
+# Tables that are wrong in one thing alone, by what is wrong, with the two webs.
+BARE = ([0, 0], [[0, 0], [0, 0]])
+BARE_THREE = ([0, 0, 0], [[0] * 3 for u in range(3)])
+TWO_HUES = ([0, 1], [[0, 0], [0, 0]])
+HALF = (1, 2)
+WRONG_TABLES = {
+    "unlike many places": (BARE, BARE_THREE, [[(2, 3)] * 2 + [(0, 1)] for u in range(2)]),
+    "unlike many places, square here": (BARE, BARE_THREE, [[HALF, HALF], [HALF, HALF]]),
+    "unlike many places, square there": (BARE, BARE_THREE, table_by_order([0, 1, 2])),
+    "no places here": (NO_PLACES, ([0], [[0]]), []),
+    "no places there": (([0], [[0]]), NO_PLACES, [[]]),
+    "a row left out": (BARE, BARE, [[(1, 1), (1, 1)]]),
+    "all rows left out": (BARE, BARE, []),
+    "a row too many": (BARE, BARE, [[(1, 1), (0, 1)], [(0, 1), (1, 1)], [(0, 1), (0, 1)]]),
+    "an empty row too many": (BARE, BARE, [[(1, 1), (0, 1)], [(0, 1), (1, 1)], []]),
+    "a share left out": (BARE, BARE, [[(1, 1)], [(0, 1), (1, 1)]]),
+    "a share left out at the end": (BARE, BARE, [[(0, 1), (1, 1)], [(1, 1)]]),
+    "a share too many": (BARE, BARE, [[(1, 1), (0, 1), (0, 1)], [(0, 1), (1, 1)]]),
+    "a share too many at the end": (BARE, BARE, [[(1, 1), (0, 1)], [(0, 1), (1, 1), (0, 1)]]),
+    "columns too long": (BARE, BARE, [[(1, 1), (0, 1), (0, 1)], [(0, 1), (1, 1), (0, 1)]]),
+    "columns that do not come to 1": (BARE, BARE, [[(1, 1), (0, 1)], [(1, 1), (0, 1)]]),
+    "rows that do not come to 1": (BARE, BARE, [[(1, 1), (1, 1)], [(0, 1), (0, 1)]]),
+    "all shares nought": (BARE, BARE, [[(0, 1), (0, 1)], [(0, 1), (0, 1)]]),
+    "all come to 2": (BARE, BARE, [[(1, 1), (1, 1)], [(1, 1), (1, 1)]]),
+    "a little too little": (BARE, BARE, [[(SIXTY - 1, SIXTY), (0, 1)], [(0, 1), (SIXTY - 1, SIXTY)]]),
+    "shares below nought": (BARE, BARE, [[(2, 1), (-1, 1)], [(-1, 1), (2, 1)]]),
+    "shares a little below nought": (BARE, BARE, [[(SIXTY + 1, SIXTY), (-1, SIXTY)],
+                                                  [(-1, SIXTY), (SIXTY + 1, SIXTY)]]),
+    "shares between two hues": (TWO_HUES, TWO_HUES, [[(0, 1), (1, 1)], [(1, 1), (0, 1)]]),
+    "a hue that is not there": (BARE, TWO_HUES, [[(1, 1), (0, 1)], [(0, 1), (1, 1)]]),
+    "even shares of two hues": (TWO_HUES, TWO_HUES, [[HALF, HALF], [HALF, HALF]]),
+    "weights that do not go through": (web_of_own_weights([1, 2]), web_of_own_weights([1, 2]), table_by_order([1, 0])),
+    "another weight between": (BARE, ([0, 0], [[0, 1], [1, 0]]), table_by_order([0, 1])),
+    "a place's own weight another one": (BARE, web_of_own_weights([0, -1]), table_by_order([0, 1])),
+    "weights a little unlike": (web_of_own_weights([SIXTY] * 2), web_of_own_weights([SIXTY, SIXTY - 1]),
+                                [[HALF, HALF], [HALF, HALF]]),
+}
+
+
 def lists_in(value):
     """Every list in a value, at whatever depth, the value itself among them."""
     if not isinstance(value, (list, tuple)):
@@ -99,3 +331,22 @@ def is_whole(value):
 
 def as_told(value):
     return (value.numerator, value.denominator)
+
+
+def check_fractions(case, told, right):
+    """A told list is the right one, of fractions in lowest terms."""
+    case.assertIs(type(told), list)
+    case.assertEqual(told, right)
+    for f in told:
+        case.assertIs(type(f), tuple)
+        case.assertTrue(is_whole(f[0]) and is_whole(f[1]))
+        case.assertGreater(f[1], 0)
+        case.assertEqual(gcd(*f), 1)
+
+
+def check_table(case, told, right):
+    """A told table is the right one, of lists of fractions in lowest terms."""
+    case.assertIs(type(told), list)
+    case.assertEqual(len(told), len(right))
+    for row, right_row in zip(told, right):
+        check_fractions(case, row, right_row)

@@ -103,6 +103,53 @@ def check_walks(tree):
             yield node.lineno, "L23 kept, not walked"
 
 
+KEYWORDS = {"sorted": ("key", "reverse"), "min": ("key", "default"), "max": ("key", "default"), "sum": ("start",),
+            "enumerate": ("start",), "zip": ("strict",)}
+
+
+def check_keywords(node):
+    name = called(node)
+    if name in BUILTINS or name in METHODS:
+        for keyword in node.keywords:
+            if keyword.arg not in KEYWORDS.get(name, ()):
+                yield node.lineno, f"L22 the keyword {keyword.arg}"
+
+
+def check_sets(tree):
+    right = []
+    for node in ast.walk(tree):
+        if isinstance(node, ast.Compare):
+            right += [node.left] + node.comparators
+        if isinstance(node, ast.BinOp):
+            right += [node.left, node.right]
+        if called(node) in ("sorted", "len") and not node.keywords:
+            right += node.args
+    for node in ast.walk(tree):
+        if called(node) in ("set", "frozenset") and node not in right:
+            yield node.lineno, "L24 a set that is kept"
+
+
+def check_errors(node):
+    if isinstance(node, ast.ExceptHandler):
+        names = [part.id for part in ast.walk(node.type) if isinstance(part, ast.Name)] if node.type else []
+        if not names or set(names) & {"Exception", "TypeError"}:
+            yield node.lineno, "L19 what is taken"
+    if isinstance(node, ast.Raise) and not isinstance(node.exc, ast.Call):
+        yield node.lineno, "L19 an error that is not made on the spot"
+
+
+def values_of(trees):
+    """The names of all values that objects are given."""
+    nodes = [node for tree in trees for node in ast.walk(tree) if isinstance(node, ast.Attribute)]
+    return [node.attr for node in nodes if isinstance(node.ctx, ast.Store)]
+
+
+def names_of_pythons_own():
+    free = ("count", "index", "title", "find", "get", "join", "lower", "upper", "split", "strip", "copy", "add")
+    own = {name for kind in (str, int, list, dict, set, bytes, tuple) for name in dir(kind)}
+    return own.difference(free) | {"args", "with_traceback", "add_note"}
+
+
 def check_top(tree):
     for place, node in enumerate(tree.body):
         docstring = place == 0 and isinstance(node, ast.Expr) and isinstance(node.value, ast.Constant)
@@ -119,6 +166,8 @@ def check_function(node):
         yield node.lineno, "L10 a function too long"
     if node.decorator_list or args.vararg or args.kwarg or args.kwonlyargs or args.posonlyargs:
         yield node.lineno, "L4 a function's parameters"
+    if node.returns or any(arg.annotation for arg in args.args):
+        yield node.lineno, "L21 an annotation"
 
 
 def check_class(node):
@@ -167,7 +216,7 @@ def methods_of(trees):
 def check_code(text, methods=()):
     tree = ast.parse(text)
     found = list(check_text(text)) + list(check_names(tree, methods)) + list(check_top(tree))
-    found += list(check_locals(tree)) + list(check_walks(tree))
+    found += list(check_locals(tree)) + list(check_walks(tree)) + list(check_sets(tree))
     for node in ast.walk(tree):
         if isinstance(node, ast.FunctionDef):
             found += check_function(node)
@@ -175,7 +224,7 @@ def check_code(text, methods=()):
             found += check_class(node)
         if isinstance(node, ast.stmt):
             found += check_statement(node, node is tree.body[0])
-        found += check_expression(node)
+        found += list(check_expression(node)) + list(check_keywords(node)) + list(check_errors(node))
     return found
 
 
@@ -193,6 +242,12 @@ class Package(unittest.TestCase):
         for path, text in texts.items():
             with self.subTest(file=path.name):
                 self.assertEqual(check_code(text, methods), [])
+
+    def test_names_of_methods_and_values(self):
+        trees = [ast.parse(path.read_text()) for path in PACKAGE.glob("*.py")]
+        self.assertIn("place", values_of(trees))
+        self.assertEqual(set(values_of(trees)) & set(methods_of(trees)), set())
+        self.assertEqual(set(values_of(trees)) & names_of_pythons_own(), set())
 
     def test_no_two_files_draw_from_one_another(self):
         drawn = {}
@@ -221,11 +276,11 @@ class TheCheckItself(unittest.TestCase):
         self.assertEqual(check_code('"""Words."""\n\n\ndef f(x):\n    return [y for y in x if y is not None]\n'), [])
 
     def test_code_outside_is_found(self):
-        for line in ("return x / 2", "return 1.5", "return {1}", "a = b = x", "del x", "assert x", "'words'", "x.sort()",
-                     "return x is 3", "return 2 ** x", "return open(x)", "return [y for z in x for y in z]", "_y = x",
-                     "return set(y for y in x)", "min = x", "return f'{x[0]}'", "global x", "return 'x%'",
-                     "import math", "from .errors import NoWeb", "from math import gcd", "return type(x)",
-                     "return x.format()", "while x:\n        x = 0\n    else:\n        pass"):
+        for line in ("return x / 2", "return 1.5", "return {1}", "a = b = x", "del x", "assert x", "'words'",
+                     "x.sort()", "return x is 3", "return 2 ** x", "return open(x)", "_y = x", "min = x",
+                     "return [y for z in x for y in z]", "return set(y for y in x)", "return f'{x[0]}'", "global x",
+                     "return 'x%'", "import math", "from .errors import NoWeb", "from math import gcd",
+                     "return type(x)", "return x.format()", "while x:\n        x = 0\n    else:\n        pass"):
             with self.subTest(line=line):
                 self.assertNotEqual(check_code(f"def f(x):\n    {line}\n"), [])
 
@@ -234,6 +289,17 @@ class TheCheckItself(unittest.TestCase):
         for line in ("return zip(x, x)", "y = reversed(x)", "x.extend(range(3))", "return x.values()"):
             self.assertNotEqual(check_code(f"def f(x):\n    {line}\n"), [])
         for line in ("return list(zip(x, x))", "return tuple(x.values())", "return [y for y in range(x)]"):
+            self.assertEqual(check_code(f"def f(x):\n    {line}\n"), [])
+
+    def test_sets_keywords_errors_and_annotations_are_found(self):
+        for line in ("y = set(x)", "return set(x)", "return sorted(set(x), key=len)", "return x.split(sep=' ')",
+                     "return int(x, base=2)", "raise x", "try:\n        pass\n    except Exception:\n        pass",
+                     "try:\n        pass\n    except:\n        pass"):
+            with self.subTest(line=line):
+                self.assertNotEqual(check_code(f"def f(x):\n    {line}\n"), [])
+        self.assertNotEqual(check_code("def f(x: int):\n    return x\n"), [])
+        for line in ("return sorted(set(x))", "return len(set(x) - set(x))", "return 1 in set(x)",
+                     "return sorted(x, key=len)", "return set(x) == set(x)", "raise ValueError(x)"):
             self.assertEqual(check_code(f"def f(x):\n    {line}\n"), [])
 
     def test_long_functions_and_lines_are_found(self):

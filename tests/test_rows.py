@@ -1,15 +1,16 @@
 import copy
 import unittest
 from fractions import Fraction
-from math import gcd
 from random import Random
 
 from evenkin.rows import row_of, total_of
 from evenkin.trees import term_of
 from evenkin.webs import side_by_side, web_renamed
-from helpers import NO_PLACES, SIXTY, all_webs, as_told, check_own, is_whole, some_webs, web_of
+from helpers import (NO_PLACES, ROW_LEAVES, SIXTY, TABLE_LEAVES, all_webs, any_row_term, as_told, check_fractions,
+                     check_own, depth_of_term, row_there, some_webs, web_of)
 
 ONE = ("one",)
+TIE = ("tie",)
 THREE = ([0, 1, 0], [[2, -3, 0], [-3, 0, 5], [0, 5, 7]])
 EIGHT = next(some_webs(8, (0, 1, 5), (-4, -1, 0, 0, 1, 2, 3), 1, 8))
 SIXTEEN = side_by_side(EIGHT, next(some_webs(8, (0, 1, 2), (-9, 0, 1, 6), 1, 9)))
@@ -17,32 +18,6 @@ LARGE = ([0, SIXTY], [[SIXTY, -SIXTY], [-SIXTY, SIXTY - 1]])
 WEBS = (NO_PLACES, ([0], [[3]]), ([4], [[0]]), ([1], [[-2]]), THREE, LARGE, EIGHT, SIXTEEN, web_of(8))
 FRACTIONS = ((0, 1), (1, 1), (-1, 1), (1, 2), (-5, 6), (9, 4))
 LARGE_FRACTIONS = ((SIXTY, 1), (-SIXTY, SIXTY - 1), (1, SIXTY), (-1, 10 ** 59), (7, 2 ** 199), (SIXTY - 1, SIXTY))
-LEAVES = (ONE, ("hue", 0), ("hue", 1), ("hue", SIXTY))
-
-
-def row_there(web, term):
-    """Point 6 word by word, with Python's own fractions."""
-    hues, rows = web
-    places = range(len(hues))
-    kind = term[0]
-    if kind == "one":
-        return [Fraction(1) for u in places]
-    if kind == "hue":
-        return [Fraction(1 if hues[u] == term[1] else 0) for u in places]
-    if kind == "near":
-        inner = row_there(web, term[1])
-        return [sum((rows[u][v] * inner[v] for v in places), Fraction(0)) for u in places]
-    if kind == "many":
-        return [Fraction(*term[1]) * value for value in row_there(web, term[2])]
-    first, second = row_there(web, term[1]), row_there(web, term[2])
-    if kind == "both":
-        return [first[u] * second[u] for u in places]
-    assert kind == "plus"
-    return [first[u] + second[u] for u in places]
-
-
-def depth_of(term):
-    return 1 + max([depth_of(part) for part in term if isinstance(part, tuple) and isinstance(part[0], str)], default=0)
 
 
 def one_deeper(terms, others, fractions):
@@ -52,34 +27,11 @@ def one_deeper(terms, others, fractions):
     return found + [("many", f, term) for f in fractions for term in terms]
 
 
-def any_term(chance, depth, fractions):
-    """A term of just this depth."""
-    if depth == 1:
-        return chance.choice(LEAVES)
-    kind = chance.choice(("near", "both", "plus", "many"))
-    inner = any_term(chance, depth - 1, fractions)
-    if kind == "near":
-        return (kind, inner)
-    if kind == "many":
-        return (kind, chance.choice(fractions), inner)
-    other = any_term(chance, chance.randint(1, min(3, depth - 1)), fractions)
-    return (kind, inner, other) if chance.random() < 0.5 else (kind, other, inner)
-
-
 class Rows(unittest.TestCase):
     def check(self, web, term):
         right = row_there(web, term)
-        self.check_told(row_of(web, term), [as_told(value) for value in right])
-        self.check_told([total_of(web, term)], [as_told(sum(right, Fraction(0)))])
-
-    def check_told(self, told, right):
-        self.assertIs(type(told), list)
-        self.assertEqual(told, right)
-        for f in told:
-            self.assertIs(type(f), tuple)
-            self.assertTrue(is_whole(f[0]) and is_whole(f[1]))
-            self.assertGreater(f[1], 0)
-            self.assertEqual(gcd(*f), 1)
+        check_fractions(self, row_of(web, term), [as_told(value) for value in right])
+        check_fractions(self, [total_of(web, term)], [as_told(sum(right, Fraction(0)))])
 
 
 class EachKind(Rows):
@@ -136,9 +88,9 @@ class EachKind(Rows):
 
 class AgainstPointSix(Rows):
     def test_each_kind_within_each_other(self):
-        shallow = list(LEAVES) + one_deeper(LEAVES, LEAVES, FRACTIONS)
+        shallow = list(ROW_LEAVES) + one_deeper(ROW_LEAVES, ROW_LEAVES, FRACTIONS)
         for web in (([4], [[-2]]), THREE):
-            for term in shallow + one_deeper(shallow, LEAVES + (("near", ONE), ("many", (9, 4), ONE)), FRACTIONS):
+            for term in shallow + one_deeper(shallow, ROW_LEAVES + (("near", ONE), ("many", (9, 4), ONE)), FRACTIONS):
                 with self.subTest(web=web, term=term):
                     self.check(web, term)
 
@@ -150,7 +102,7 @@ class AgainstPointSix(Rows):
                 self.assertEqual(row_of(web, (kind, first, second)), row_of(web, (kind, second, first)))
 
     def test_webs_of_all_sizes(self):
-        terms = list(LEAVES) + one_deeper(LEAVES, LEAVES, FRACTIONS)
+        terms = list(ROW_LEAVES) + one_deeper(ROW_LEAVES, ROW_LEAVES, FRACTIONS)
         for web in WEBS:
             for term in terms + one_deeper(terms[::3], terms[::5], FRACTIONS[3:]):
                 with self.subTest(web=web, term=term):
@@ -162,14 +114,14 @@ class AgainstPointSix(Rows):
             self.check(web, term)
 
     def test_the_web_without_places(self):
-        for term in list(LEAVES) + one_deeper(LEAVES, LEAVES, FRACTIONS + LARGE_FRACTIONS):
+        for term in list(ROW_LEAVES) + one_deeper(ROW_LEAVES, ROW_LEAVES, FRACTIONS + LARGE_FRACTIONS):
             self.assertEqual(row_of(NO_PLACES, term), [])
             self.assertEqual(total_of(NO_PLACES, term), (0, 1))
 
     def test_two_webs_beside_one_another(self):
         chance = Random(1)
         for turn in range(30):
-            term = any_term(chance, 5, FRACTIONS)
+            term = any_row_term(chance, 5, FRACTIONS)
             for web, other in ((THREE, EIGHT), (EIGHT, web_of(8)), (NO_PLACES, THREE), (LARGE, NO_PLACES)):
                 both = side_by_side(web, other)
                 self.assertEqual(row_of(both, term), row_of(web, term) + row_of(other, term))
@@ -178,7 +130,7 @@ class AgainstPointSix(Rows):
     def test_a_web_renamed(self):
         chance = Random(2)
         for turn in range(30):
-            term = any_term(chance, 6, FRACTIONS)
+            term = any_row_term(chance, 6, FRACTIONS)
             order = chance.sample(range(8), 8)
             renamed = web_renamed(EIGHT, order)
             self.assertEqual(row_of(renamed, term), [row_of(EIGHT, term)[u] for u in order])
@@ -186,16 +138,84 @@ class AgainstPointSix(Rows):
 
     def test_weights_nought_everywhere(self):
         nought = ([0, 1, 1], [[0] * 3 for u in range(3)])
-        for term in one_deeper(LEAVES, LEAVES, FRACTIONS):
+        for term in one_deeper(ROW_LEAVES, ROW_LEAVES, FRACTIONS):
             self.check(nought, term)
         self.assertEqual(row_of(nought, ("near", ONE)), [(0, 1)] * 3)
+
+
+class RowsOfTables(Rows):
+    def test_written_out(self):
+        self.assertEqual(row_of(THREE, ("rows", ("same",))), [(1, 1)] * 3)
+        self.assertEqual(row_of(THREE, ("rows", TIE)), [(-1, 1), (2, 1), (12, 1)])
+        self.assertEqual(row_of(THREE, ("rows", ("all",))), [(3, 1)] * 3)
+        self.assertEqual(row_of(THREE, ("rows", ("on", ("hue", 0)))), [(1, 1), (0, 1), (1, 1)])
+        self.assertEqual(row_of(THREE, ("rows", ("then", ("on", ("near", ONE)), ("all",)))), [(-3, 1), (6, 1), (36, 1)])
+        self.assertEqual(total_of(THREE, ("rows", TIE)), (13, 1))
+        self.assertEqual(total_of(THREE, ("rows", ("many", (1, 3), TIE))), (13, 3))
+
+    def test_rows_not_columns(self):
+        table = ("then", ("on", ("hue", 1)), TIE)
+        self.assertEqual(row_of(THREE, ("rows", table)), [(0, 1), (2, 1), (0, 1)])
+        self.assertEqual(row_of(THREE, ("rows", ("turned", table))), [(-3, 1), (0, 1), (5, 1)])
+
+    def test_each_kind_with_rows_in_it(self):
+        tables = list(TABLE_LEAVES) + [("on", ("near", ONE)), ("many", (-5, 6), TIE), ("then", TIE, ("on", ("hue", 0)))]
+        rows = [("rows", table) for table in tables]
+        for web in WEBS:
+            for term in rows + one_deeper(rows, rows[:2] + [("hue", 0)], FRACTIONS[3:]):
+                self.check(web, term)
+
+    def test_near_is_rows_of_tie_then_on(self):
+        chance = Random(5)
+        for turn in range(20):
+            term = any_row_term(chance, 4, FRACTIONS, True)
+            for web in (THREE, EIGHT):
+                same = ("rows", ("then", TIE, ("on", term)))
+                self.assertEqual(row_of(web, ("near", term)), row_of(web, same))
+                self.assertEqual(row_of(web, term), row_of(web, ("rows", ("on", term))))
+
+    def test_on_and_rows_within_one_another(self):
+        term = ("near", ONE)
+        while depth_of_term(term) < 20:
+            term = ("rows", ("on", term)) if depth_of_term(term) < 19 else ("near", term)
+        for web in WEBS:
+            self.check(web, term)
+
+    def test_twenty_deep(self):
+        chance = Random(6)
+        for turn in range(40):
+            term = any_row_term(chance, 20, FRACTIONS, True)
+            self.assertEqual(depth_of_term(term), 20)
+            for web in (NO_PLACES, THREE, EIGHT):
+                self.check(web, term)
+
+    def test_fractions_of_sixty_figures(self):
+        chance = Random(7)
+        for turn in range(20):
+            term = any_row_term(chance, 8, LARGE_FRACTIONS, True)
+            for web in (THREE, LARGE):
+                self.check(web, term)
+
+    def test_sixteen_places(self):
+        for table in (TIE, ("same",), ("on", ("near", ONE)), ("then", TIE, TIE), ("many", (1, 16), ("all",))):
+            self.check(SIXTEEN, ("rows", table))
+            self.check(SIXTEEN, ("near", ("rows", table)))
+
+    def test_the_web_without_places(self):
+        for table in TABLE_LEAVES + (("on", ONE), ("turned", TIE), ("then", TIE, TIE), ("many", (1, 2), TIE)):
+            self.assertEqual(row_of(NO_PLACES, ("rows", table)), [])
+            self.assertEqual(total_of(NO_PLACES, ("rows", table)), (0, 1))
+
+    def test_terms_of_trees_with_many_boughs_within_tables(self):
+        term = term_of((None, [(0, []) for bough in range(300)]))
+        self.assertEqual(row_of(([0, 0], [[0, 1], [1, 0]]), ("rows", ("on", term))), [(1, 1), (1, 1)])
 
 
 class LargeNumbers(Rows):
     def test_weights_of_sixty_figures(self):
         self.assertEqual(row_of(LARGE, ("near", ONE)), [(0, 1), (-1, 1)])
         self.assertEqual(row_of(LARGE, ("near", ("hue", 0))), [(SIXTY, 1), (-SIXTY, 1)])
-        for term in one_deeper([("near", leaf) for leaf in LEAVES], LEAVES, LARGE_FRACTIONS):
+        for term in one_deeper([("near", leaf) for leaf in ROW_LEAVES], ROW_LEAVES, LARGE_FRACTIONS):
             self.check(LARGE, term)
 
     def test_fractions_of_sixty_figures(self):
@@ -224,7 +244,7 @@ class DeepTerms(Rows):
             wraps.append(lambda term, kind=kind: (kind, ("near", ONE), term))
         for wrap in wraps:
             term = ("near", ONE)
-            while depth_of(term) < 20:
+            while depth_of_term(term) < 20:
                 term = wrap(term)
             for web in (NO_PLACES, THREE, EIGHT, SIXTEEN):
                 self.check(web, term)
@@ -232,15 +252,15 @@ class DeepTerms(Rows):
     def test_twenty_deep_of_all_kinds(self):
         chance = Random(3)
         for turn in range(60):
-            term = any_term(chance, 20, FRACTIONS)
-            self.assertEqual(depth_of(term), 20)
+            term = any_row_term(chance, 20, FRACTIONS)
+            self.assertEqual(depth_of_term(term), 20)
             for web in (THREE, EIGHT, SIXTEEN):
                 self.check(web, term)
 
     def test_twenty_deep_with_fractions_of_sixty_figures(self):
         chance = Random(4)
         for turn in range(10):
-            term = any_term(chance, 20, LARGE_FRACTIONS)
+            term = any_row_term(chance, 20, LARGE_FRACTIONS)
             for web in (LARGE, EIGHT):
                 self.check(web, term)
 
@@ -262,7 +282,8 @@ class DeepTerms(Rows):
 
 class WhatIsHandedInAndTold(Rows):
     def test_own(self):
-        terms = list(LEAVES) + one_deeper(LEAVES, LEAVES, FRACTIONS[1:3]) + [("near", ("both", ONE, ("near", ONE)))]
+        terms = list(ROW_LEAVES) + one_deeper(ROW_LEAVES, ROW_LEAVES, FRACTIONS[1:3])
+        terms += [("near", ("both", ONE, ("near", ONE))), ("rows", TIE), ("rows", ("many", (1, 2), ("on", ONE)))]
         for term in terms:
             for web in (NO_PLACES, THREE, SIXTEEN):
                 check_own(self, row_of, [copy.deepcopy(web), term])

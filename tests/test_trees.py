@@ -6,7 +6,7 @@ from math import prod
 from evenkin.rows import row_of, total_of
 from evenkin.trees import knots_of, maps_total, term_of
 from evenkin.webs import side_by_side, web_renamed
-from helpers import NO_PLACES, SIXTY, all_webs, check_own, is_whole, ring, some_webs, web_of
+from helpers import NO_PLACES, SIXTY, all_webs, check_own, deep_tree, is_whole, ring, some_webs, sums_by_place, web_of
 
 KNOT = (None, [])
 ONE = ("one",)
@@ -51,25 +51,6 @@ def sum_over_maps(web, tree):
         if all(wish is None or hues[place] == wish for (wish, stem), place in zip(knots, places)):
             total += prod(rows[places[stem]][place] for (wish, stem), place in zip(knots, places) if stem is not None)
     return total
-
-
-def sums_by_place(web, tree):
-    """For each place the sum over the maps that lead the first knot to it."""
-    hues, rows = web
-    places = range(len(hues))
-    sums = [1 if tree[0] is None or hue == tree[0] else 0 for hue in hues]
-    for bough in tree[1]:
-        there = sums_by_place(web, bough)
-        sums = [sums[u] * sum(rows[u][v] * there[v] for v in places) for u in places]
-    return sums
-
-
-def deep_tree(depth, wishes, beside=()):
-    """A tree of so many knots one behind the other, each but the last with boughs beside."""
-    tree = (wishes[0], [])
-    for turn in range(1, depth):
-        tree = (wishes[turn % len(wishes)], [tree] + copy.deepcopy(list(beside)))
-    return tree
 
 
 class TermOf(unittest.TestCase):
