@@ -32,3 +32,12 @@ def in_one_list(rows):
 
 def in_square(things, size):
     return [things[size * place:size * (place + 1)] for place in range(size)]
+
+
+def is_square(rows, size):
+    return len(rows) == size and all([len(row) == size for row in rows])
+
+
+def first_place_not_nought(row):
+    places = [place for place, number in enumerate(row) if number != 0]
+    return places[0] if places else None

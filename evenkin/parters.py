@@ -1,6 +1,6 @@
 """Trees that part: of two webs that do not part alike, a tree whose totals in both are unlike."""
 
-from evenkin.grids import sums_with_each
+from evenkin.grids import first_place_not_nought, sums_with_each
 from evenkin.partings import part_alike
 from evenkin.webs import side_by_side
 
@@ -37,11 +37,6 @@ def grown_sprouts(kept, knots, weights):
             if sprout.knots + bough.knots == knots:
                 grown.append(with_bough(sprout, bough, weights))
     return sorted(grown, key=lambda sprout: sprout.depth)
-
-
-def first_place_not_nought(row):
-    places = [place for place, number in enumerate(row) if number != 0]
-    return places[0] if places else None
 
 
 def rest_behind(row, kept):

@@ -1,12 +1,8 @@
 """Tables of shares: which go through two webs, how they are joined and turned, and their lots."""
 
 from evenkin.fractions import common_bottom, fraction_of, product_of, sum_of_all, top_over
-from evenkin.grids import columns_of, in_one_list, in_square, product_of_grids
+from evenkin.grids import columns_of, in_one_list, in_square, is_square, product_of_grids
 from evenkin.partings import coarsest_together, numbered
-
-
-def is_square(table, size):
-    return len(table) == size and all([len(row) == size for row in table])
 
 
 def come_to(rows, whole):

@@ -32,12 +32,18 @@ def terms_innermost_first(term):
 # of a table row by row, so that what is done place by place is the same for rows and tables.
 
 
-def lowered(tops, bottom):
-    divisor = bottom
+def shared_by_all(divisor, tops):
     for top in tops:
         if divisor == 1:
-            return (tops, bottom)
+            return 1
         divisor = greatest_divisor(divisor, top)
+    return divisor
+
+
+def lowered(tops, bottom):
+    divisor = shared_by_all(bottom, tops)
+    if divisor == 1:
+        return (tops, bottom)
     return ([top // divisor for top in tops], bottom // divisor)
 
 
@@ -52,7 +58,12 @@ def one_by_one_sum(value, other):
 
 
 def many_times(f, value):
-    return lowered([f[0] * top for top in value[0]], f[1] * value[1])
+    # Crosswise, so that a short fraction is held against long numbers, never long ones against long ones.
+    from_top = greatest_divisor(f[0], value[1])
+    from_bottom = shared_by_all(f[1], value[0])
+    top = f[0] // from_top
+    bottom = (f[1] // from_bottom) * (value[1] // from_top)
+    return ([top * (number // from_bottom) for number in value[0]], bottom)
 
 
 def one_then_other(size, value, other):
@@ -122,11 +133,33 @@ def value_of(web, term):
     return values[0]
 
 
+def shared_by_any(tops, bottom):
+    product = 1
+    for top in tops:
+        if top != 0:
+            product = product * top % bottom
+    return greatest_divisor(bottom, product)
+
+
+def fractions_of_value(value):
+    bottom = value[1]
+    # What any one top shares with the bottom divides what their product shares with it: so a
+    # long search for a divisor is made once, not for each place.
+    shared = shared_by_any(value[0], bottom)
+    fractions = []
+    for top in value[0]:
+        divisor = bottom if top == 0 else greatest_divisor(top, shared)
+        fractions.append((top // divisor, bottom // divisor))
+    return fractions
+
+
+def total_of_value(value):
+    return fraction_of(sum(value[0]), value[1])
+
+
 def fractions_of_term(web, term):
-    value = value_of(web, term)
-    return [fraction_of(top, value[1]) for top in value[0]]
+    return fractions_of_value(value_of(web, term))
 
 
 def total_of_term(web, term):
-    value = value_of(web, term)
-    return fraction_of(sum(value[0]), value[1])
+    return total_of_value(value_of(web, term))

@@ -1,6 +1,7 @@
 """What several test files need: webs and tables to ask about, looking at what is told, and sharing no list."""
 
 import copy
+from collections import Counter
 from fractions import Fraction
 from itertools import product
 from math import gcd
@@ -8,6 +9,13 @@ from random import Random
 
 SIXTY = 10 ** 60 - 1
 NO_PLACES = ([], [])
+ONE_PLACE = ([0], [[0]])
+TWO = ([0, 1], [[2, -3], [-3, 5]])
+THREE = ([0, 1, 0], [[2, -3, 0], [-3, 0, 5], [0, 5, 7]])
+PATH = ([0, 0, 0], [[0, 1, 0], [1, 0, 1], [0, 1, 0]])
+LARGE_TWO = ([0, SIXTY], [[SIXTY, -SIXTY], [-SIXTY, SIXTY - 1]])
+FRACTIONS = ((0, 1), (1, 1), (-1, 1), (1, 2), (-5, 6), (9, 4))
+LARGE_FRACTIONS = ((SIXTY, 1), (-SIXTY, SIXTY - 1), (1, SIXTY), (-1, 10 ** 59), (7, 2 ** 199), (SIXTY - 1, SIXTY))
 
 
 def web_of(size):
@@ -40,6 +48,11 @@ def some_webs(size, hues, weights, count, seed):
     for turn in range(count):
         hues_there = [chance.choice(hues) for u in range(size)]
         yield web_by_pairs(hues_there, [chance.choice(weights) for pair in range(size * (size + 1) // 2)])
+
+
+EIGHT = next(some_webs(8, (0, 1, 5), (-4, -1, 0, 0, 1, 2, 3), 1, 8))
+# Webs to reckon terms and steps in.
+TERM_WEBS = (NO_PLACES, ([0], [[3]]), ([4], [[0]]), ([1], [[-2]]), TWO, THREE, LARGE_TWO, EIGHT, web_of(8))
 
 
 def ring(*sizes):
@@ -153,8 +166,8 @@ def row_there(web, term):
     return [first[u] + second[u] for u in places]
 
 
-def table_there(web, term):
-    """Point 16 word by word, with Python's own fractions."""
+def table_by_kind(web, term, inner):
+    """Point 16 word by word, with Python's own fractions, of the tables of the table terms in a term."""
     places = range(len(web[0]))
 
     def by_pairs(value):
@@ -166,21 +179,93 @@ def table_there(web, term):
         return by_pairs(lambda u, v: web[1][u][v])
     if kind == "all":
         return by_pairs(lambda u, v: 1)
-    if kind == "on":
-        row = row_there(web, term[1])
-        return by_pairs(lambda u, v: row[u] if u == v else 0)
-    first = table_there(web, term[2] if kind == "many" else term[1])
+    first = inner[0]
     if kind == "turned":
         return by_pairs(lambda u, v: first[v][u])
     if kind == "many":
         return by_pairs(lambda u, v: Fraction(*term[1]) * first[u][v])
-    second = table_there(web, term[2])
+    second = inner[1]
     if kind == "then":
         return by_pairs(lambda u, v: sum(first[u][w] * second[w][v] for w in places))
     if kind == "meet":
         return by_pairs(lambda u, v: first[u][v] * second[u][v])
     assert kind == "plus"
     return by_pairs(lambda u, v: first[u][v] + second[u][v])
+
+
+def table_on(row):
+    return [[value if u == v else Fraction(0) for v in range(len(row))] for u, value in enumerate(row)]
+
+
+def table_there(web, term):
+    """A table term's table by point 16."""
+    if term[0] == "on":
+        return table_on(row_there(web, term[1]))
+    inner = [table_there(web, part) for part in term[1:] if isinstance(part[0], str)]
+    return table_by_kind(web, term, inner)
+
+
+def named_in(step):
+    return [part for part in step[1:] if is_whole(part) and step[0] != "hue"]
+
+
+def tables_there(web, steps):
+    """The tables of all steps by point 17."""
+    tables = []
+    for step in steps:
+        if step[0] == "hue":
+            tables.append(table_on(row_there(web, step)))
+        else:
+            tables.append(table_by_kind(web, step, [tables[number] for number in named_in(step)]))
+    return tables
+
+
+def steps_total_there(web, steps):
+    return as_told(sum((value for row in tables_there(web, steps)[-1] for value in row), Fraction(0)))
+
+
+def is_step(step, place):
+    """Whether a value has the form of the step of that number, by point 17."""
+    if type(step) is not tuple or not step:
+        return False
+    kind, rest = step[0], step[1:]
+    if kind == "hue":
+        return len(rest) == 1 and is_whole(rest[0]) and rest[0] >= 0
+    if kind == "many":
+        if len(rest) != 2 or type(rest[0]) is not tuple or len(rest[0]) != 2 or not all(map(is_whole, rest[0])):
+            return False
+        if rest[0][1] < 1 or gcd(*rest[0]) != 1:
+            return False
+        rest = rest[1:]
+    many = {"same": 0, "tie": 0, "all": 0, "turned": 1, "many": 1, "then": 2, "meet": 2, "plus": 2}
+    return len(rest) == many.get(kind) and all(is_whole(number) and 0 <= number < place for number in rest)
+
+
+def is_reckoning(value):
+    right = type(value) is list and len(value) > 0
+    return right and all(is_step(step, place) for place, step in enumerate(value))
+
+
+LEAF_STEPS = (("same",), ("tie",), ("all",), ("hue", 0), ("hue", 1), ("hue", SIXTY))
+
+
+def any_steps(chance, count, fractions, limit=8):
+    """A reckoning of so many steps, none of which has more than so many steps without names multiplied in it."""
+    steps, factors = [], []
+    while len(steps) < count:
+        kind = chance.choice(("leaf", "turned", "then", "then", "meet", "plus", "many"))
+        names = {"leaf": 0, "turned": 1, "many": 1}.get(kind, 2)
+        named = tuple(chance.randrange(len(steps)) for name in range(names)) if steps else ()
+        of_each = [factors[number] for number in named]
+        inside = sum(of_each) if kind in ("then", "meet") else max(of_each, default=1)
+        if kind == "leaf":
+            steps.append(chance.choice(LEAF_STEPS))
+        elif steps and inside <= limit:
+            steps.append((kind, chance.choice(fractions)) + named if kind == "many" else (kind,) + named)
+        else:
+            continue
+        factors.append(inside)
+    return steps
 
 
 def depth_of_term(term):
@@ -285,6 +370,141 @@ WRONG_TABLES = {
 }
 
 
+def all_partings(size):
+    """Every list of so many numbers in which each stands ahead or is the least that doesn't."""
+    if size == 0:
+        yield []
+        return
+    for lots in all_partings(size - 1):
+        for lot in range(len(set(lots)) + 1):
+            yield lots + [lot]
+
+
+def numbered_anew(lots):
+    """The same lots, numbered in the order in which they first stand."""
+    return [sorted(set(lots), key=lots.index).index(lot) for lot in lots]
+
+
+CUBE = web_of_ties(8, "01 02 04 13 15 23 26 37 45 46 57 67")
+# Webs that are alike by trees and not by pairs.
+TREE_ALIKE = ((ring(6), ring(3, 3)), (ring(7), ring(3, 4)), (ring(8), ring(3, 5)), (ring(8), ring(4, 4)),
+              (ring(3, 5), ring(4, 4)), (scaled(ring(6), SIXTY), scaled(ring(3, 3), SIXTY)),
+              (with_hue(with_hue(ring(6), 0, 1), 3, 1), with_hue(with_hue(ring(3, 3), 0, 1), 3, 1)),
+              (CUBE, web_of_ties(8, "01 12 23 34 45 56 67 07 04 15 26 37")),
+              (web_of_own_weights([1, 1]), ([0, 0], [[0, 1], [1, 0]])))
+# Webs that are alike by neither.
+UNLIKE_PAIRS = ((NO_PLACES, ONE_PLACE), (ONE_PLACE, BARE), (BARE, BARE_THREE), (ONE_PLACE, ([1], [[0]])),
+                (ONE_PLACE, ([0], [[1]])), (PATH, ring(3)), (ring(8), ring(7)), (web_of(8), ring(8)),
+                (PATH, with_hue(PATH, 1, 4)), (PATH, with_weight(PATH, 0, 2, 5)),
+                (web_of_own_weights([SIXTY]), web_of_own_weights([SIXTY - 1])),
+                (web_of(8), with_weight(web_of(8), 3, 6, 99)), (web_of(8), with_hue(web_of(8), 5, 0)),
+                LIKE_POWERS) + LATE_PAIRS
+
+
+def each_its_own(web, first=0):
+    """A table of kinds in which each pair is a kind of its own, numbered from the first on."""
+    size = len(web[0])
+    return [[first + size * u + v for v in range(size)] for u in range(size)]
+
+
+def in_tables(kinds, sizes):
+    """Kinds read row by row, as the tables of webs of so many places."""
+    left = list(kinds)
+    return [[[left.pop(0) for v in range(size)] for u in range(size)] for size in sizes]
+
+
+def kinds_read(tables):
+    return [kind for table in tables for row in table for kind in row]
+
+
+def renumbered(table, numbers):
+    return [[numbers[kind] for kind in row] for row in table]
+
+
+def pairs_of(webs):
+    """All pairs of places of one web, with the web's number ahead."""
+    return [(k, u, v) for k, web in enumerate(webs) for u in range(len(web[0])) for v in range(len(web[0]))]
+
+
+def wrongs_between(webs, tables, pair, other):
+    """What point 18 asks of two pairs of one kind and does not find."""
+    (k, u, v), (l, x, y) = pair, other
+    (hues, rows), (hues_there, rows_there) = webs[k], webs[l]
+
+    def kinds_on_the_way(table, first, last):
+        return Counter((table[first][w], table[w][last]) for w in range(len(table)))
+    if (u == v) != (x == y):
+        yield "same"
+    if rows[u][v] != rows_there[x][y]:
+        yield "weights"
+    if hues[u] != hues_there[x]:
+        yield "first hues"
+    if hues[v] != hues_there[y]:
+        yield "second hues"
+    if tables[k][v][u] != tables[l][y][x]:
+        yield "turned"
+    if kinds_on_the_way(tables[k], u, v) != kinds_on_the_way(tables[l], x, y):
+        yield "between"
+
+
+def kin_wrongs(webs, tables):
+    """All that keeps tables from being kin, one after the other: of one web by point 18, of two by point 19."""
+    pairs = pairs_of(webs)
+    for place, pair in enumerate(pairs):
+        for other in pairs[:place]:
+            if tables[pair[0]][pair[1]][pair[2]] == tables[other[0]][other[1]][other[2]]:
+                yield from wrongs_between(webs, tables, pair, other)
+
+
+def kin_there(webs, tables):
+    return not any(kin_wrongs(webs, tables))
+
+
+def coarsest_by_splitting(webs):
+    """The coarsest tables of kinds: pairs are parted as long as something of point 18 parts them."""
+    pairs, sizes = pairs_of(webs), [len(web[0]) for web in webs]
+    kinds = [0] * len(pairs)
+    while True:
+        tables, firsts, finer = in_tables(kinds, sizes), [], []
+        for place, pair in enumerate(pairs):
+            alike = [k for k, first in enumerate(firsts) if kinds[first] == kinds[place]
+                     and not any(wrongs_between(webs, tables, pair, pairs[first]))]
+            firsts += [] if alike else [place]
+            finer.append(alike[0] if alike else len(firsts) - 1)
+        if finer == kinds:
+            return tables
+        kinds = finer
+
+
+# Tables of kinds that are not kin, by what is wrong, with the web and all that is wrong with them. Hues of
+# one place of a pair can't be wrong alone: of the pair turned, or of a place with itself, the others are too.
+BARE_SIX = ([0] * 6, [[0] * 6 for u in range(6)])
+ONE_OF_THREE = ([0, 0, 1], [[0] * 3 for u in range(3)])
+WRONG_KINDS = {
+    "all pairs of one kind": (BARE, [[0, 0], [0, 0]], {"same"}),
+    "a place with itself and with another": (BARE_THREE, [[0, 1, 1], [2, 3, 3], [2, 3, 3]], {"same"}),
+    "own weights": (web_of_own_weights([1, 2]), [[0, 1], [1, 0]], {"weights"}),
+    "own weights a little unlike": (web_of_own_weights([SIXTY, SIXTY - 1]), [[0, 1], [1, 0]], {"weights"}),
+    "own weights that are opposite": (web_of_own_weights([1, -1]), [[0, 1], [1, 0]], {"weights"}),
+    "weights between": (([0] * 3, [[0, 1, 1], [1, 0, 2], [1, 2, 0]]), [[0, 1, 1], [1, 0, 1], [1, 1, 0]], {"weights"}),
+    "hues of places with themselves": (TWO_HUES, [[0, 1], [1, 0]], {"first hues", "second hues"}),
+    "hues of places with others": (ONE_OF_THREE, [[0, 1, 2], [2, 0, 1], [1, 2, 0]], {"first hues", "second hues"}),
+    "first hues": (ONE_OF_THREE, [[0, 1, 2], [1, 0, 2], [1, 1, 3]], {"first hues", "turned", "between"}),
+    "second hues": (ONE_OF_THREE, [[0, 1, 1], [1, 0, 1], [2, 2, 3]], {"second hues", "turned", "between"}),
+    "turned": (BARE_SIX, [[0, 1, 1, 1, 2, 2], [1, 0, 1, 1, 2, 2], [2, 1, 0, 2, 1, 1],
+                          [1, 2, 2, 0, 1, 1], [2, 1, 1, 2, 0, 1], [1, 2, 2, 1, 1, 0]], {"turned"}),
+    "turned, of four kinds": (BARE_SIX, [[0, 1, 1, 2, 3, 3], [1, 0, 2, 1, 3, 3], [3, 2, 0, 3, 1, 1],
+                                         [2, 3, 3, 0, 1, 1], [3, 1, 1, 3, 0, 2], [1, 3, 3, 1, 2, 0]], {"turned"}),
+    "turned and between": (BARE_THREE, [[0, 1, 1], [1, 0, 1], [1, 2, 0]], {"turned", "between"}),
+    "between, of two places": (BARE, [[0, 1], [1, 2]], {"between"}),
+    "between, of three places": (BARE_THREE, [[0, 1, 1], [1, 0, 2], [1, 2, 0]], {"between"}),
+    "between, of a path": (web_of_ties(4, "01 12 23"), [[0, 1, 2, 2], [1, 0, 1, 2], [2, 1, 0, 1], [2, 2, 1, 0]],
+                           {"between"}),
+    "between, of two rings by weights": (ring(3, 5), [[0 if u == v else 2 - w for v, w in enumerate(row)]
+                                                      for u, row in enumerate(ring(3, 5)[1])], {"between"}),
+}
+
+
 def lists_in(value):
     """Every list in a value, at whatever depth, the value itself among them."""
     if not isinstance(value, (list, tuple)):
@@ -323,6 +543,11 @@ def check_own(case, ask, handed):
         spoil(part)
     case.assertEqual(last, kept)
     case.assertEqual(ask(*before), kept)
+
+
+def whole(rows):
+    """A table of whole numbers, as fractions."""
+    return [[(number, 1) for number in row] for row in rows]
 
 
 def is_whole(value):

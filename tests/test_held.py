@@ -6,12 +6,12 @@ from evenkin.held import held_by_trees, look_trees
 from evenkin.partings import part_alike
 from evenkin.shares import goes_through, join_tables, table_of, turned_over
 from evenkin.webs import web_renamed
-from helpers import (BARE, HALF, LATE_PAIRS, LIKE_POWERS, NO_PLACES, SIXTY, WRONG_TABLES, all_webs, check_own,
-                     check_fractions, check_table, deep_tree, depth_of_tree, is_tree, mixed_tables, ring, scaled,
-                     some_webs, sums_by_place, table_by_order, table_with, turn_by, web_of, with_hue, with_weight)
+from helpers import (BARE, HALF, LATE_PAIRS, LIKE_POWERS, NO_PLACES, PATH, SIXTY, WRONG_TABLES, all_webs,
+                     check_fractions, check_own, check_table, deep_tree, depth_of_tree, is_tree, mixed_tables, ring,
+                     scaled, some_webs, sums_by_place, table_by_order, table_with, turn_by, web_of, with_hue,
+                     with_weight)
 
 KNOT = (None, [])
-PATH = ([0, 0, 0], [[0, 1, 0], [1, 0, 1], [0, 1, 0]])
 LARGE = ([5, 5], [[SIXTY, -SIXTY], [-SIXTY, SIXTY - 1]])
 ORDER = [3, 1, 0, 7, 6, 2, 5, 4]
 ALIKE = ((NO_PLACES, NO_PLACES), (BARE, BARE), (PATH, web_renamed(PATH, [1, 0, 2])), (ring(8), ring(3, 5)),

@@ -7,11 +7,10 @@ from evenkin.partings import part_alike
 from evenkin.rows import total_of
 from evenkin.trees import knots_of, maps_total, term_of
 from evenkin.webs import web_renamed
-from helpers import (LATE_PAIRS, LIKE_POWERS, NO_PLACES, SIXTY, all_webs, check_own, depth_of_tree, is_tree, lists_in,
-                     ring, scaled, some_webs, sums_by_place, web_of, web_of_own_weights, web_of_ties, with_hue,
-                     with_weight)
+from helpers import (LATE_PAIRS, LIKE_POWERS, NO_PLACES, PATH, SIXTY, all_webs, check_own, depth_of_tree, is_tree,
+                     lists_in, ring, scaled, some_webs, sums_by_place, web_of, web_of_own_weights, web_of_ties,
+                     with_hue, with_weight)
 
-PATH = ([0, 0, 0], [[0, 1, 0], [1, 0, 1], [0, 1, 0]])
 ORDER = [3, 1, 0, 7, 6, 2, 5, 4]
 
 

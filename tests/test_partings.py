@@ -4,20 +4,10 @@ from itertools import permutations
 
 from evenkin.partings import coarsest_parting, coarsest_together, is_even, part_alike
 from evenkin.webs import side_by_side, web_renamed
-from helpers import NO_PLACES, SIXTY, all_webs, check_own, is_whole, ring, some_webs, web_of
+from helpers import (NO_PLACES, PATH, SIXTY, all_partings, all_webs, check_own, is_whole, numbered_anew, ring,
+                     some_webs, web_of)
 
-PATH = ([0, 0, 0], [[0, 1, 0], [1, 0, 1], [0, 1, 0]])
 LARGE = ([0, 0], [[SIXTY, -SIXTY], [-SIXTY, SIXTY - 1]])
-
-
-def all_partings(size):
-    """Every parting of so many places."""
-    if size == 0:
-        yield []
-        return
-    for lots in all_partings(size - 1):
-        for lot in range(len(set(lots)) + 1):
-            yield lots + [lot]
 
 
 def even_there(web, lots):
@@ -44,10 +34,6 @@ def coarsest_there(web):
                                              if one[u] == one[v])]
     assert len(coarsest) == 1
     return coarsest[0]
-
-
-def numbered_anew(lots):
-    return [sorted(set(lots), key=lots.index).index(lot) for lot in lots]
 
 
 def small_webs():

@@ -6,18 +6,14 @@ from random import Random
 from evenkin.rows import row_of, total_of
 from evenkin.trees import term_of
 from evenkin.webs import side_by_side, web_renamed
-from helpers import (NO_PLACES, ROW_LEAVES, SIXTY, TABLE_LEAVES, all_webs, any_row_term, as_told, check_fractions,
-                     check_own, depth_of_term, row_there, some_webs, web_of)
+from helpers import (EIGHT, FRACTIONS, LARGE_FRACTIONS, LARGE_TWO, NO_PLACES, ROW_LEAVES, SIXTY, TABLE_LEAVES,
+                     TERM_WEBS, THREE, all_webs, any_row_term, as_told, check_fractions, check_own, depth_of_term,
+                     row_there, some_webs, web_of)
 
 ONE = ("one",)
 TIE = ("tie",)
-THREE = ([0, 1, 0], [[2, -3, 0], [-3, 0, 5], [0, 5, 7]])
-EIGHT = next(some_webs(8, (0, 1, 5), (-4, -1, 0, 0, 1, 2, 3), 1, 8))
 SIXTEEN = side_by_side(EIGHT, next(some_webs(8, (0, 1, 2), (-9, 0, 1, 6), 1, 9)))
-LARGE = ([0, SIXTY], [[SIXTY, -SIXTY], [-SIXTY, SIXTY - 1]])
-WEBS = (NO_PLACES, ([0], [[3]]), ([4], [[0]]), ([1], [[-2]]), THREE, LARGE, EIGHT, SIXTEEN, web_of(8))
-FRACTIONS = ((0, 1), (1, 1), (-1, 1), (1, 2), (-5, 6), (9, 4))
-LARGE_FRACTIONS = ((SIXTY, 1), (-SIXTY, SIXTY - 1), (1, SIXTY), (-1, 10 ** 59), (7, 2 ** 199), (SIXTY - 1, SIXTY))
+WEBS = TERM_WEBS + (SIXTEEN,)
 
 
 def one_deeper(terms, others, fractions):
@@ -43,13 +39,13 @@ class EachKind(Rows):
         self.assertEqual(row_of(THREE, ("hue", 0)), [(1, 1), (0, 1), (1, 1)])
         self.assertEqual(row_of(THREE, ("hue", 1)), [(0, 1), (1, 1), (0, 1)])
         self.assertEqual(total_of(THREE, ("hue", 0)), (2, 1))
-        self.assertEqual(row_of(LARGE, ("hue", SIXTY)), [(0, 1), (1, 1)])
+        self.assertEqual(row_of(LARGE_TWO, ("hue", SIXTY)), [(0, 1), (1, 1)])
 
     def test_hue_that_no_place_has(self):
         for hue in (2, 7, SIXTY):
             self.assertEqual(row_of(THREE, ("hue", hue)), [(0, 1), (0, 1), (0, 1)])
             self.assertEqual(total_of(THREE, ("hue", hue)), (0, 1))
-        self.assertEqual(row_of(LARGE, ("hue", SIXTY - 1)), [(0, 1), (0, 1)])
+        self.assertEqual(row_of(LARGE_TWO, ("hue", SIXTY - 1)), [(0, 1), (0, 1)])
 
     def test_near_is_the_sum_of_weights_times_the_term(self):
         self.assertEqual(row_of(THREE, ("near", ONE)), [(-1, 1), (2, 1), (12, 1)])
@@ -122,7 +118,7 @@ class AgainstPointSix(Rows):
         chance = Random(1)
         for turn in range(30):
             term = any_row_term(chance, 5, FRACTIONS)
-            for web, other in ((THREE, EIGHT), (EIGHT, web_of(8)), (NO_PLACES, THREE), (LARGE, NO_PLACES)):
+            for web, other in ((THREE, EIGHT), (EIGHT, web_of(8)), (NO_PLACES, THREE), (LARGE_TWO, NO_PLACES)):
                 both = side_by_side(web, other)
                 self.assertEqual(row_of(both, term), row_of(web, term) + row_of(other, term))
                 self.check(both, term)
@@ -193,7 +189,7 @@ class RowsOfTables(Rows):
         chance = Random(7)
         for turn in range(20):
             term = any_row_term(chance, 8, LARGE_FRACTIONS, True)
-            for web in (THREE, LARGE):
+            for web in (THREE, LARGE_TWO):
                 self.check(web, term)
 
     def test_sixteen_places(self):
@@ -213,16 +209,16 @@ class RowsOfTables(Rows):
 
 class LargeNumbers(Rows):
     def test_weights_of_sixty_figures(self):
-        self.assertEqual(row_of(LARGE, ("near", ONE)), [(0, 1), (-1, 1)])
-        self.assertEqual(row_of(LARGE, ("near", ("hue", 0))), [(SIXTY, 1), (-SIXTY, 1)])
+        self.assertEqual(row_of(LARGE_TWO, ("near", ONE)), [(0, 1), (-1, 1)])
+        self.assertEqual(row_of(LARGE_TWO, ("near", ("hue", 0))), [(SIXTY, 1), (-SIXTY, 1)])
         for term in one_deeper([("near", leaf) for leaf in ROW_LEAVES], ROW_LEAVES, LARGE_FRACTIONS):
-            self.check(LARGE, term)
+            self.check(LARGE_TWO, term)
 
     def test_fractions_of_sixty_figures(self):
         for f in LARGE_FRACTIONS:
             for g in LARGE_FRACTIONS:
                 mixed = ("plus", ("many", f, ("hue", 0)), ("many", g, ("hue", 1)))
-                for web in (THREE, LARGE, EIGHT):
+                for web in (THREE, LARGE_TWO, EIGHT):
                     self.check(web, mixed)
                     self.check(web, ("near", mixed))
                     self.check(web, ("both", mixed, ("near", mixed)))
@@ -261,7 +257,7 @@ class DeepTerms(Rows):
         chance = Random(4)
         for turn in range(10):
             term = any_row_term(chance, 20, LARGE_FRACTIONS)
-            for web in (LARGE, EIGHT):
+            for web in (LARGE_TWO, EIGHT):
                 self.check(web, term)
 
     def test_a_term_with_itself_on_both_sides(self):

@@ -8,26 +8,16 @@ from evenkin.shares import join_tables, turned_over
 from evenkin.tables import table_of_term, table_total
 from evenkin.trees import term_of
 from evenkin.webs import web_renamed
-from helpers import (NO_PLACES, ROW_LEAVES, SIXTY, TABLE_LEAVES, all_webs, any_table_term, as_told, check_fractions,
-                     check_own, check_table, deep_tree, depth_of_term, some_webs, table_there, web_of)
+from helpers import (EIGHT, FRACTIONS, LARGE_FRACTIONS, LARGE_TWO, NO_PLACES, ROW_LEAVES, SIXTY, TABLE_LEAVES,
+                     TERM_WEBS, THREE, TWO, all_webs, any_table_term, as_told, check_fractions, check_own, check_table,
+                     deep_tree, depth_of_term, table_there, web_of, whole)
 
 ONE = ("one",)
 SAME = ("same",)
 TIE = ("tie",)
 ALL = ("all",)
-TWO = ([0, 1], [[2, -3], [-3, 5]])
-THREE = ([0, 1, 0], [[2, -3, 0], [-3, 0, 5], [0, 5, 7]])
-EIGHT = next(some_webs(8, (0, 1, 5), (-4, -1, 0, 0, 1, 2, 3), 1, 8))
-LARGE = ([0, SIXTY], [[SIXTY, -SIXTY], [-SIXTY, SIXTY - 1]])
-WEBS = (NO_PLACES, ([0], [[3]]), ([4], [[0]]), ([1], [[-2]]), TWO, THREE, LARGE, EIGHT, web_of(8))
-FRACTIONS = ((0, 1), (1, 1), (-1, 1), (1, 2), (-5, 6), (9, 4))
-LARGE_FRACTIONS = ((SIXTY, 1), (-SIXTY, SIXTY - 1), (1, SIXTY), (-1, 10 ** 59), (7, 2 ** 199), (SIXTY - 1, SIXTY))
 # A table that is not the same when it is turned.
 LEANING = ("then", ("on", ("hue", 0)), TIE)
-
-
-def whole(rows):
-    return [[(number, 1) for number in row] for row in rows]
 
 
 def one_deeper(terms, others, fractions):
@@ -56,7 +46,7 @@ class EachKind(Tables):
 
     def test_tie(self):
         self.check_whole(TWO, TIE, TWO[1])
-        self.check_whole(LARGE, TIE, LARGE[1])
+        self.check_whole(LARGE_TWO, TIE, LARGE_TWO[1])
         self.check_whole(web_of(8), TIE, web_of(8)[1])
 
     def test_all(self):
@@ -119,7 +109,7 @@ class AgainstPointSixteen(Tables):
     def test_rows_within_tables(self):
         rows = list(ROW_LEAVES) + [("near", ONE), ("both", ("near", ONE), ("hue", 0)), ("many", (1, 6), ("near", ONE)),
                                    ("plus", ("many", (1, 2), ONE), ("hue", 1)), ("rows", TIE), ("rows", LEANING)]
-        for web in WEBS:
+        for web in TERM_WEBS:
             for row in rows:
                 self.check(web, ("on", row))
                 self.check(web, ("then", ("on", row), TIE))
@@ -134,7 +124,7 @@ class AgainstPointSixteen(Tables):
 
     def test_either_side_of_then_meet_and_plus(self):
         first, second = ("many", (1, 6), LEANING), ("plus", TIE, ("on", ("many", (9, 4), ("near", ONE))))
-        for web in WEBS:
+        for web in TERM_WEBS:
             for kind in ("then", "meet", "plus"):
                 self.check(web, (kind, first, second))
                 self.check(web, (kind, second, first))
@@ -143,7 +133,7 @@ class AgainstPointSixteen(Tables):
 
     def test_webs_of_all_sizes(self):
         terms = list(TABLE_LEAVES) + one_deeper(TABLE_LEAVES + (LEANING,), TABLE_LEAVES + (LEANING,), FRACTIONS)
-        for web in WEBS:
+        for web in TERM_WEBS:
             for term in terms:
                 self.check(web, term)
 
@@ -180,11 +170,11 @@ class LargeNumbersAndDeepTerms(Tables):
         for f in LARGE_FRACTIONS:
             for g in LARGE_FRACTIONS:
                 mixed = ("plus", ("many", f, TIE), ("many", g, ("on", ("hue", 0))))
-                for web in (TWO, LARGE):
+                for web in (TWO, LARGE_TWO):
                     self.check(web, mixed)
                     self.check(web, ("then", mixed, ("meet", TIE, mixed)))
         for turn in range(20):
-            self.check(LARGE, any_table_term(chance, 7, LARGE_FRACTIONS))
+            self.check(LARGE_TWO, any_table_term(chance, 7, LARGE_FRACTIONS))
 
     def test_fractions_that_take_each_other_up(self):
         for f in LARGE_FRACTIONS:
@@ -250,7 +240,7 @@ class WhatIsHandedInAndTold(Tables):
         check_table(self, before, whole([[2, -3], [-3, 5]]))
 
     def test_told_tables_may_be_handed_in_again(self):
-        for web in WEBS:
+        for web in TERM_WEBS:
             tie = table_of_term(web, TIE)
             check_table(self, turned_over(table_of_term(web, LEANING)), table_of_term(web, ("turned", LEANING)))
             check_table(self, join_tables(tie, tie), table_of_term(web, ("then", TIE, TIE)))
