@@ -3,9 +3,11 @@
 import copy
 from collections import Counter
 from fractions import Fraction
-from itertools import product
+from itertools import permutations, product
 from math import gcd
 from random import Random
+
+from evenkin.errors import KinError
 
 SIXTY = 10 ** 60 - 1
 NO_PLACES = ([], [])
@@ -13,7 +15,10 @@ ONE_PLACE = ([0], [[0]])
 TWO = ([0, 1], [[2, -3], [-3, 5]])
 THREE = ([0, 1, 0], [[2, -3, 0], [-3, 0, 5], [0, 5, 7]])
 PATH = ([0, 0, 0], [[0, 1, 0], [1, 0, 1], [0, 1, 0]])
+LARGE = ([5, 5], [[SIXTY, -SIXTY], [-SIXTY, SIXTY - 1]])
 LARGE_TWO = ([0, SIXTY], [[SIXTY, -SIXTY], [-SIXTY, SIXTY - 1]])
+# An order of eight places.
+ORDER = [3, 1, 0, 7, 6, 2, 5, 4]
 FRACTIONS = ((0, 1), (1, 1), (-1, 1), (1, 2), (-5, 6), (9, 4))
 LARGE_FRACTIONS = ((SIXTY, 1), (-SIXTY, SIXTY - 1), (1, SIXTY), (-1, 10 ** 59), (7, 2 ** 199), (SIXTY - 1, SIXTY))
 
@@ -392,6 +397,17 @@ TREE_ALIKE = ((ring(6), ring(3, 3)), (ring(7), ring(3, 4)), (ring(8), ring(3, 5)
               (with_hue(with_hue(ring(6), 0, 1), 3, 1), with_hue(with_hue(ring(3, 3), 0, 1), 3, 1)),
               (CUBE, web_of_ties(8, "01 12 23 34 45 56 67 07 04 15 26 37")),
               (web_of_own_weights([1, 1]), ([0, 0], [[0, 1], [1, 0]])))
+
+
+def web_of_squares(is_tied):
+    """A web of one hue whose places are four by four squares, by how far two lie from one another, gone round."""
+    squares = list(product(range(4), repeat=2))
+    return ([0] * 16, [[1 if is_tied((a - c) % 4, (b - d) % 4) else 0 for c, d in squares] for a, b in squares])
+
+
+# Webs of sixteen places that are alike by pairs and have no turning.
+PAIR_ALIKE = (web_of_squares(lambda across, down: (across == 0) != (down == 0)),
+              web_of_squares(lambda across, down: (across, down) in ((0, 1), (0, 3), (1, 0), (3, 0), (1, 1), (3, 3))))
 # Webs that are alike by neither.
 UNLIKE_PAIRS = ((NO_PLACES, ONE_PLACE), (ONE_PLACE, BARE), (BARE, BARE_THREE), (ONE_PLACE, ([1], [[0]])),
                 (ONE_PLACE, ([0], [[1]])), (PATH, ring(3)), (ring(8), ring(7)), (web_of(8), ring(8)),
@@ -503,6 +519,45 @@ WRONG_KINDS = {
     "between, of two rings by weights": (ring(3, 5), [[0 if u == v else 2 - w for v, w in enumerate(row)]
                                                       for u, row in enumerate(ring(3, 5)[1])], {"between"}),
 }
+
+
+def turnings_there(web, other):
+    """All turnings by point 22, word by word, of all lists of the other's places, each once, in their order."""
+    (hues, rows), (hues_there, rows_there) = web, other
+    places = range(len(hues))
+    if len(hues) != len(hues_there):
+        return []
+    return [list(turning) for turning in permutations(places)
+            if all(hues[u] == hues_there[turning[u]] for u in places)
+            and all(rows[u][v] == rows_there[turning[u]][turning[v]] for u in places for v in places)]
+
+
+# A number and a fraction in a text, by point 23.
+FROM_NOUGHT = r"(?:0|[1-9][0-9]{0,59})"
+NUMBER = r"(?:0|-?[1-9][0-9]{0,59})"
+# Signs that are put into texts in the place of others: some that stand in texts, and some that stand in none.
+SIGNS = list(" ;:()*+-/0123456789aefhinorstuw_.,%~AO\"\t\n") + ["\u00a0", "\u00b2", "\u0663", "\u00e9"]
+NO_NUMBERS = ("00", "01", "-0", "-01", "+1", "+0", "--1", "- 1", "1-", "1.0", "1e3", "1_0", "0x1", "x", "-", "1 000",
+              "1/1", "\u0663", "\u00b2", str(10 ** 60), str(-10 ** 60), "9" * 61, "1" * 3000, "0" * 60)
+
+
+def changed_texts(text):
+    """Every text that comes of leaving out a sign, or of putting a sign elsewhere, twice or into another's place."""
+    for place, sign in enumerate(text):
+        yield text[:place] + text[place + 1:]
+        yield text[:place] + sign + text[place:]
+        yield text[:place] + text[place + 1:place + 2] + sign + text[place + 2:]
+    for place in range(len(text) + 1):
+        for sign in SIGNS:
+            yield text[:place] + sign + text[place:]
+            yield text[:place] + sign + text[place + 1:]
+
+
+def check_refused(case, ask, handed, refusal):
+    """Refused by this name, which stands straight under KinError, and by no other."""
+    with case.assertRaises(KinError) as taken:
+        ask(handed)
+    case.assertIs(type(taken.exception), refusal, handed)
 
 
 def lists_in(value):

@@ -6,14 +6,12 @@ from evenkin.held import held_by_trees, look_trees
 from evenkin.partings import part_alike
 from evenkin.shares import goes_through, join_tables, table_of, turned_over
 from evenkin.webs import web_renamed
-from helpers import (BARE, HALF, LATE_PAIRS, LIKE_POWERS, NO_PLACES, PATH, SIXTY, WRONG_TABLES, all_webs,
+from helpers import (BARE, HALF, LARGE, LATE_PAIRS, LIKE_POWERS, NO_PLACES, ORDER, PATH, SIXTY, WRONG_TABLES, all_webs,
                      check_fractions, check_own, check_table, deep_tree, depth_of_tree, is_tree, mixed_tables, ring,
                      scaled, some_webs, sums_by_place, table_by_order, table_with, turn_by, web_of, with_hue,
                      with_weight)
 
 KNOT = (None, [])
-LARGE = ([5, 5], [[SIXTY, -SIXTY], [-SIXTY, SIXTY - 1]])
-ORDER = [3, 1, 0, 7, 6, 2, 5, 4]
 ALIKE = ((NO_PLACES, NO_PLACES), (BARE, BARE), (PATH, web_renamed(PATH, [1, 0, 2])), (ring(8), ring(3, 5)),
          (web_of(8), web_renamed(web_of(8), ORDER)), (scaled(ring(6), SIXTY), scaled(ring(3, 3), SIXTY)),
          (LATE_PAIRS[0][0], web_renamed(LATE_PAIRS[0][0], ORDER)), (LARGE, web_renamed(LARGE, [1, 0])))

@@ -5,13 +5,12 @@ from random import Random
 from evenkin.kinds import are_kin, coarsest_kinds, is_kin, kinds_together, same_kin
 from evenkin.partings import coarsest_parting, part_alike
 from evenkin.webs import web_renamed
-from helpers import (BARE, BARE_SIX, BARE_THREE, CUBE, LATE_PAIRS, LIKE_POWERS, NO_PLACES, ONE_OF_THREE, ONE_PLACE,
-                     PATH, SIXTY, TREE_ALIKE, TWO_HUES, UNLIKE_PAIRS, WRONG_KINDS, all_partings, all_webs, check_own,
-                     coarsest_by_splitting, each_its_own, in_tables, is_whole, kin_there, kin_wrongs, kinds_read,
-                     numbered_anew, renumbered, ring, some_webs, web_of, web_of_own_weights, with_hue, with_weight)
+from helpers import (BARE, BARE_SIX, BARE_THREE, CUBE, LARGE, LATE_PAIRS, LIKE_POWERS, NO_PLACES, ONE_OF_THREE,
+                     ONE_PLACE, ORDER, PATH, SIXTY, TREE_ALIKE, TWO_HUES, UNLIKE_PAIRS, WRONG_KINDS, all_partings,
+                     all_webs, check_own, coarsest_by_splitting, each_its_own, in_tables, is_whole, kin_there,
+                     kin_wrongs, kinds_read, numbered_anew, renumbered, ring, some_webs, web_of, web_of_own_weights,
+                     with_hue, with_weight)
 
-LARGE = ([5, 5], [[SIXTY, -SIXTY], [-SIXTY, SIXTY - 1]])
-ORDER = [3, 1, 0, 7, 6, 2, 5, 4]
 WEBS = (NO_PLACES, ONE_PLACE, ([7], [[-3]]), BARE, TWO_HUES, PATH, LARGE, ONE_OF_THREE, BARE_SIX, ring(8), ring(3, 5),
         CUBE, web_of(8), LATE_PAIRS[0][0], with_hue(ring(8), 3, 1), with_weight(ring(8), 2, 5, -1), LIKE_POWERS[0],
         ([0] * 8, [[SIXTY if (u - v) % 8 in (1, 7) else -SIXTY for v in range(8)] for u in range(8)]))

@@ -9,15 +9,13 @@ from evenkin.pairs import held_by_pairs, look_pairs, parting_steps
 from evenkin.partings import part_alike
 from evenkin.steps import look_at_steps, steps_total, tables_of_steps
 from evenkin.webs import web_renamed
-from helpers import (BARE, BARE_SIX, CUBE, LATE_PAIRS, LIKE_POWERS, NO_PLACES, ONE_PLACE, PATH, SIXTY, TREE_ALIKE,
-                     TWO_HUES, UNLIKE_PAIRS, WRONG_KINDS, all_webs, any_steps, as_told, check_fractions, check_own,
-                     coarsest_by_splitting, each_its_own, is_reckoning, kin_there, kinds_read, named_in, renumbered,
-                     ring, scaled, some_webs, steps_total_there, web_of, web_of_own_weights, web_of_ties, with_hue,
-                     with_weight)
+from helpers import (BARE, BARE_SIX, CUBE, LARGE, LATE_PAIRS, LIKE_POWERS, NO_PLACES, ONE_PLACE, ORDER, PATH, SIXTY,
+                     TREE_ALIKE, TWO_HUES, UNLIKE_PAIRS, WRONG_KINDS, all_webs, any_steps, as_told, check_fractions,
+                     check_own, coarsest_by_splitting, each_its_own, is_reckoning, kin_there, kinds_read, named_in,
+                     renumbered, ring, scaled, some_webs, steps_total_there, web_of, web_of_own_weights, web_of_ties,
+                     with_hue, with_weight)
 
 TIE = ("tie",)
-LARGE = ([5, 5], [[SIXTY, -SIXTY], [-SIXTY, SIXTY - 1]])
-ORDER = [3, 1, 0, 7, 6, 2, 5, 4]
 ALIKE = ((NO_PLACES, NO_PLACES), (ONE_PLACE, ONE_PLACE), (BARE, BARE), (TWO_HUES, web_renamed(TWO_HUES, [1, 0])),
          (PATH, web_renamed(PATH, [1, 0, 2])), (LARGE, web_renamed(LARGE, [1, 0])), (BARE_SIX, BARE_SIX),
          (ring(3, 5), web_renamed(ring(3, 5), ORDER)), (CUBE, web_renamed(CUBE, ORDER)),

@@ -7,11 +7,9 @@ from evenkin.partings import part_alike
 from evenkin.rows import total_of
 from evenkin.trees import knots_of, maps_total, term_of
 from evenkin.webs import web_renamed
-from helpers import (LATE_PAIRS, LIKE_POWERS, NO_PLACES, PATH, SIXTY, all_webs, check_own, depth_of_tree, is_tree,
-                     lists_in, ring, scaled, some_webs, sums_by_place, web_of, web_of_own_weights, web_of_ties,
-                     with_hue, with_weight)
-
-ORDER = [3, 1, 0, 7, 6, 2, 5, 4]
+from helpers import (LATE_PAIRS, LIKE_POWERS, NO_PLACES, ORDER, PATH, SIXTY, all_webs, check_own, depth_of_tree,
+                     is_tree, lists_in, ring, scaled, some_webs, sums_by_place, web_of, web_of_own_weights,
+                     web_of_ties, with_hue, with_weight)
 
 
 class Parters(unittest.TestCase):

@@ -7,13 +7,11 @@ from random import Random
 from evenkin.partings import coarsest_together, is_even, part_alike
 from evenkin.shares import goes_through, join_tables, lots_of, table_of, turned_over
 from evenkin.webs import side_by_side, web_renamed
-from helpers import (BARE, HALF, LATE_PAIRS, NO_PLACES, SIXTY, WRONG_TABLES, all_webs, as_told, check_own, check_table,
-                     is_whole, mixed_tables, ring, scaled, some_webs, table_by_order, table_with, turn_by, web_of,
-                     web_of_own_weights, with_hue, with_weight)
+from helpers import (BARE, HALF, LARGE, LATE_PAIRS, NO_PLACES, ORDER, SIXTY, WRONG_TABLES, all_webs, as_told,
+                     check_own, check_table, is_whole, mixed_tables, ring, scaled, some_webs, table_by_order,
+                     table_with, turn_by, web_of, web_of_own_weights, with_hue, with_weight)
 
-ORDER = [3, 1, 0, 7, 6, 2, 5, 4]
 STAR = ([0] * 4, [[0, 1, 1, 1], [1, 0, 0, 0], [1, 0, 0, 0], [1, 0, 0, 0]])
-LARGE = ([5, 5], [[SIXTY, -SIXTY], [-SIXTY, SIXTY - 1]])
 ALIKE = ((NO_PLACES, NO_PLACES), (BARE, BARE), (ring(6), ring(3, 3)), (ring(8), ring(3, 5)), (ring(8), ring(4, 4)),
          (STAR, web_renamed(STAR, [2, 3, 0, 1])), (web_of(8), web_renamed(web_of(8), ORDER)), (LARGE, LARGE),
          (scaled(ring(7), SIXTY), scaled(ring(3, 4), SIXTY)))
