@@ -208,6 +208,130 @@ def check_expression(node):
             yield node.lineno, "L27 a power"
 
 
+PLAIN = (ast.Constant, ast.List, ast.Tuple, ast.Dict, ast.Name, ast.UnaryOp, ast.USub, ast.Load)
+CHANGES = "append clear extend insert pop remove reverse setdefault update".split()
+ERRORS = ("KeyError", "ZeroDivisionError", "StopIteration")
+NOT_USED = """register mro elements open input version_info with_traceback add_note attrgetter breakpoint builtins
+    compile copyright credits delattr dir eval exec exit gc getattr globals hasattr help id importlib license locals
+    methodcaller os quit setattr super vars sys chr print""".split()
+
+
+def with_parents(tree):
+    """Every node with the one that it stands in."""
+    return [(child, node) for node in ast.walk(tree) for child in ast.iter_child_nodes(node)]
+
+
+def check_top_values(tree):
+    bound = []
+    for node in tree.body:
+        if isinstance(node, ast.Assign):
+            if not all(isinstance(part, PLAIN) for part in ast.walk(node.value)):
+                yield node.lineno, "L3 a value that is not plain"
+            if any(isinstance(part, ast.Name) and part.id not in bound for part in ast.walk(node.value)):
+                yield node.lineno, "L3 a name that is not defined above"
+            inner = [part for part in ast.walk(node.value) if isinstance(part, (ast.List, ast.Dict))]
+            if [part for part in inner if part is not node.value]:
+                yield node.lineno, "L15 a list or dict within another"
+            bound += [target.id for target in node.targets if isinstance(target, ast.Name)]
+        elif isinstance(node, (ast.FunctionDef, ast.ClassDef)):
+            bound.append(node.name)
+        elif isinstance(node, ast.ImportFrom):
+            if [alias for alias in node.names if alias.asname or alias.name == "*"]:
+                yield node.lineno, "L2 an import"
+    for name in bound:
+        if bound.count(name) > 1:
+            yield 0, f"L15 the name {name} bound twice"
+
+
+def top_lists(tree):
+    return [target.id for node in tree.body if isinstance(node, ast.Assign) for target in node.targets
+            if isinstance(node.value, (ast.List, ast.Dict))]
+
+
+def check_top_lists_are_read_alone(tree):
+    tops = top_lists(tree)
+    parents = with_parents(tree)
+    for child, parent in parents:
+        if isinstance(child, ast.Name) and child.id in tops and isinstance(child.ctx, ast.Load):
+            read = isinstance(parent, (ast.Compare, ast.comprehension))
+            read = read or isinstance(parent, ast.Subscript) and isinstance(parent.ctx, ast.Load)
+            read = read or isinstance(parent, ast.For) and parent.iter is child
+            read = read or isinstance(parent, ast.Attribute) and parent.attr in ("get", "items", "keys", "values")
+            read = read or called(parent) in ("len", "list", "dict", "sorted", "tuple")
+            if not read:
+                yield child.lineno, f"L15 {child.id} is not only read"
+
+
+def check_things_kept(tree):
+    classes = [node.name for node in tree.body if isinstance(node, ast.ClassDef)]
+    for child, parent in with_parents(tree):
+        is_called = isinstance(parent, ast.Call) and parent.func is child
+        if isinstance(child, ast.Name) and child.id in BUILTINS and not is_called:
+            right = isinstance(parent, (ast.ExceptHandler, ast.ClassDef, ast.keyword))
+            inside = isinstance(parent, ast.Tuple) or called(parent) == "isinstance"
+            if not right and not inside:
+                yield child.lineno, f"L22 {child.id} kept as a value"
+        if isinstance(child, ast.Name) and child.id in classes and isinstance(child.ctx, ast.Load) and not is_called:
+            if not isinstance(parent, (ast.ClassDef, ast.ExceptHandler, ast.Attribute)):
+                yield child.lineno, f"L18 the class {child.id} kept as a value"
+        if isinstance(child, ast.Attribute) and child.attr in METHODS and isinstance(child.ctx, ast.Load):
+            if not is_called and not isinstance(parent, ast.keyword):
+                yield child.lineno, f"L25 the method {child.attr} not called where it stands"
+        if isinstance(child, (ast.Name, ast.Attribute)):
+            name = child.id if isinstance(child, ast.Name) else child.attr
+            if name in NOT_USED:
+                yield child.lineno, f"L17 the name {name}"
+
+
+def walked_name(node):
+    """What a loop walks, itself or through enumerate and its like, as it is written."""
+    while isinstance(node, ast.Call) and called(node) in ("enumerate", "zip", "reversed", "items", "keys", "values"):
+        node = node.args[0] if node.args else node.func.value
+    return ast.unparse(node)
+
+
+def check_loops(tree):
+    for loop in ast.walk(tree):
+        if isinstance(loop, ast.For):
+            walked = walked_name(loop.iter)
+            for node in [part for line in loop.body for part in ast.walk(line)]:
+                if isinstance(node, ast.Call) and isinstance(node.func, ast.Attribute) and node.func.attr in CHANGES:
+                    if ast.unparse(node.func.value) == walked:
+                        yield node.lineno, "L23 what a loop walks is changed"
+                if isinstance(node, ast.Subscript) and isinstance(node.ctx, ast.Store):
+                    if ast.unparse(node.value) == walked:
+                        yield node.lineno, "L23 what a loop walks is changed"
+
+
+def check_taken(tree, refusals):
+    for node in ast.walk(tree):
+        if isinstance(node, ast.ExceptHandler) and node.type is not None:
+            for part in ast.walk(node.type):
+                if isinstance(part, ast.Name) and part.id not in refusals and part.id not in ERRORS:
+                    yield node.lineno, f"L19 {part.id} is taken"
+        if isinstance(node, ast.Raise) and not isinstance(node.cause, (type(None), ast.Name, ast.Constant)):
+            yield node.lineno, "L19 from what is raised"
+
+
+def check_methods(tree):
+    for node in ast.walk(tree):
+        if isinstance(node, ast.ClassDef):
+            names = [part.name for part in node.body if isinstance(part, ast.FunctionDef)]
+            if len(set(names)) != len(names):
+                yield node.lineno, "L18 a method twice"
+        if isinstance(node, ast.FunctionDef) and node.name == "__init__":
+            if any(isinstance(part, ast.Return) for part in ast.walk(node)):
+                yield node.lineno, "L28 __init__ gives something back"
+        if isinstance(node, ast.FunctionDef) and not all(isinstance(part, PLAIN) for part in node.args.defaults):
+            yield node.lineno, "L4 a default that is not plain"
+
+
+def check_more(text, refusals=()):
+    tree = ast.parse(text)
+    found = list(check_top_values(tree)) + list(check_top_lists_are_read_alone(tree)) + list(check_things_kept(tree))
+    return found + list(check_loops(tree)) + list(check_taken(tree, refusals)) + list(check_methods(tree))
+
+
 def methods_of(trees):
     classes = [node for tree in trees for node in ast.walk(tree) if isinstance(node, ast.ClassDef)]
     return [part.name for node in classes for part in node.body if isinstance(part, ast.FunctionDef)]
@@ -242,6 +366,7 @@ class Package(unittest.TestCase):
         for path, text in texts.items():
             with self.subTest(file=path.name):
                 self.assertEqual(check_code(text, methods), [])
+                self.assertEqual(check_more(text, ("KinError", "NoWeb", "NoStep", "NoOrder", "NoText")), [])
 
     def test_names_of_methods_and_values(self):
         trees = [ast.parse(path.read_text()) for path in PACKAGE.glob("*.py")]
@@ -301,6 +426,30 @@ class TheCheckItself(unittest.TestCase):
         for line in ("return sorted(set(x))", "return len(set(x) - set(x))", "return 1 in set(x)",
                      "return sorted(x, key=len)", "return set(x) == set(x)", "raise ValueError(x)"):
             self.assertEqual(check_code(f"def f(x):\n    {line}\n"), [])
+
+    def test_values_of_the_top_that_are_not_plain_or_not_only_read_are_found(self):
+        for top in ("X = len('a')", "X = [[1]]", "X = {'a': {}}", "X = Y", "X = 1\nX = 2", "X = 1 + 1"):
+            self.assertNotEqual(check_more(top + "\n"), [], top)
+        for top in ("X = [1, -2]", "X = {'a': (1, 2)}", "X = 'a'", "def f():\n    return 1\n\n\nX = {'a': f}"):
+            self.assertEqual(check_more(top + "\n"), [], top)
+        for line in ("X.append(1)", "X[0] = 1", "return X", "return f(X)", "y = X"):
+            self.assertNotEqual(check_more(f"X = [1]\n\n\ndef f(x):\n    {line}\n"), [], line)
+        for line in ("return X[0]", "return x in X", "return [y for y in X]", "return list(X)", "return len(X)"):
+            self.assertEqual(check_more(f"X = [1]\n\n\ndef f(x):\n    {line}\n"), [], line)
+
+    def test_things_kept_or_changed_while_they_are_walked_are_found(self):
+        for line in ("y = len", "return [len]", "y = x.append", "return f(x.get)", "return x.mro", "return chr(x)",
+                     "for y in x:\n        x.append(y)", "for y, z in enumerate(x):\n        x[y] = z",
+                     "for y in x.items():\n        x.pop(y)",
+                     "try:\n        f(x)\n    except ValueError:\n        pass"):
+            self.assertNotEqual(check_more(f"def f(x):\n    {line}\n"), [], line)
+        for line in ("return sorted(x, key=len)", "return isinstance(x, str)", "return isinstance(x, (int, str))",
+                     "for y in x:\n        f(y)", "for y in list(x):\n        x.pop(y)",
+                     "try:\n        f(x)\n    except KeyError:\n        pass"):
+            self.assertEqual(check_more(f"def f(x):\n    {line}\n"), [], line)
+        for body in ("def f(self):\n        return A", "def f(self):\n        pass\n\n    def f(self):\n        pass",
+                     "def __init__(self):\n        return None"):
+            self.assertNotEqual(check_more(f"class A:\n    {body}\n"), [], body)
 
     def test_long_functions_and_lines_are_found(self):
         self.assertNotEqual(check_code("def f(x):\n" + "    x = 1\n" * 40), [])
